@@ -1,0 +1,1 @@
+"""Rankedchains: equations of changing worths, led to chains by rankings."""

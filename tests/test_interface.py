@@ -1,0 +1,97 @@
+"""The interface: each name is defined in the file that lists it, with its arguments as told."""
+
+import importlib
+import inspect
+import unittest
+
+FUNCTIONS = {
+    "words": {
+        "is_whole": "(thing)",
+        "is_among": "(thing, least, most)",
+        "is_name": "(thing)",
+        "is_axis": "(thing)",
+        "words_of": "(row)",
+    },
+    "numbers": {
+        "is_fraction": "(thing)",
+        "fraction": "(top, bottom=1)",
+        "sum_of": "(one, other)",
+        "difference": "(one, other)",
+        "product": "(one, other)",
+        "quotient": "(one, other)",
+        "number_text": "(one)",
+    },
+    "polynomials": {
+        "is_derivative": "(thing)",
+        "is_polynomial": "(thing)",
+        "need_polynomial": "(thing)",
+        "constant": "(number)",
+        "of_derivative": "(derivative, *, power=1)",
+        "plus": "(one, other)",
+        "less": "(one, other)",
+        "times": "(one, other)",
+        "scaled": "(one, number)",
+        "raised": "(one, power)",
+        "derived": "(one, axis, *, many=1)",
+        "put_into": "(one, derivative, other)",
+        "value_of": "(one, numbers)",
+        "is_number": "(one)",
+        "number_in": "(one)",
+        "degree_of": "(one)",
+        "order_of": "(one)",
+        "derivatives_in": "(one)",
+        "names_in": "(one)",
+    },
+    "polytext": {
+        "derivative_text": "(derivative)",
+        "poly_text": "(one)",
+        "read_poly": "(text)",
+        "term_misfit": "(word, *, first=False)",
+    },
+}
+VALUES = {
+    "words": {"AXES": ("x", "y")},
+    "numbers": {"NOUGHT": (0, 1), "ONE": (1, 1)},
+}
+CLASSES = {
+    "errors": {
+        "BadRow": "(row, word)",
+        "BadPolynomial": "(number=None)",
+        "BadRanking": "(place=None)",
+        "BadChain": "(place=None)",
+        "BadData": "(place=None)",
+        "BadJet": "(place=None)",
+        "BadPaper": "(place=None)",
+        "NoUnknown": "(name)",
+        "NoEquation": "(number)",
+        "NoCase": "(number)",
+        "Contradicted": "(number)",
+        "Knotted": "(number)",
+    },
+}
+
+
+class Interface(unittest.TestCase):
+    def looked_at(self, table):
+        for name, parts in table.items():
+            module = importlib.import_module(f"rankedchains.{name}")
+            for part, due in parts.items():
+                thing = getattr(module, part)
+                self.assertEqual(thing.__module__, module.__name__, part)
+                self.assertEqual(str(inspect.signature(thing)), due, part)
+
+    def test_functions(self):
+        self.looked_at(FUNCTIONS)
+
+    def test_classes(self):
+        self.looked_at(CLASSES)
+
+    def test_values(self):
+        for name, parts in VALUES.items():
+            module = importlib.import_module(f"rankedchains.{name}")
+            for part, due in parts.items():
+                self.assertEqual(getattr(module, part), due)
+
+
+if __name__ == "__main__":
+    unittest.main()
