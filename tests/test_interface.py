@@ -48,10 +48,51 @@ FUNCTIONS = {
         "read_poly": "(text)",
         "term_misfit": "(word, *, first=False)",
     },
+    "rankings": {
+        "is_ranking": "(thing)",
+        "need_ranking": "(ranking)",
+        "is_of": "(ranking, thing)",
+        "holds_of": "(ranking, thing)",
+        "rank_compared": "(ranking, one, other)",
+        "in_rank": "(ranking, some)",
+        "all_to": "(ranking, order)",
+    },
+    "leaders": {
+        "monomials_compared": "(ranking, one, other)",
+        "head_of": "(ranking, polynomial)",
+        "leader_of": "(ranking, polynomial)",
+        "coefficients_of": "(ranking, polynomial)",
+        "initial_of": "(ranking, polynomial)",
+        "separant_of": "(ranking, polynomial)",
+        "led_of": "(ranking, polynomial)",
+    },
+    "chains": {
+        "derived_by": "(one, other)",
+        "least_common": "(one, other)",
+        "is_chain": "(ranking, thing)",
+        "need_chain": "(ranking, chain)",
+        "equation_of": "(ranking, pair)",
+        "chain_in_order": "(ranking, pairs)",
+        "principal_by": "(ranking, chain, derivative)",
+    },
+    "normal": {
+        "put_for": "(ranking, chain, derivative)",
+        "step_of": "(ranking, chain, polynomial)",
+        "normal": "(ranking, chain, polynomial)",
+        "is_reduced": "(ranking, chain, polynomial)",
+        "goes_out": "(ranking, chain, polynomial)",
+        "are_like": "(ranking, chain, polynomial, other)",
+        "met": "(ranking, chain, polynomial)",
+    },
+    "reducepaper": {
+        "reduce_paper": "(ranking, chain, polynomial)",
+        "check_reduce": "(ranking, chain, polynomial, paper)",
+    },
 }
 VALUES = {
     "words": {"AXES": ("x", "y")},
     "numbers": {"NOUGHT": (0, 1), "ONE": (1, 1)},
+    "rankings": {"SORTS": ("total", "names"), "AXES_ALL": (("x",), ("x", "y"), ("y", "x"))},
 }
 CLASSES = {
     "errors": {

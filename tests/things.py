@@ -107,3 +107,29 @@ def chain(*rows):
         left, _, right = row.partition(" = ")
         pairs.append((d(left), p(right)))
     return tuple(pairs)
+
+
+def but(*good):
+    """All of the things but those that are good."""
+    shown = [repr(thing) for thing in good]
+    return [thing for thing in things() if repr(thing) not in shown]
+
+
+NO_RANKINGS = things()
+NO_CHAINS = but(())
+NO_POLYNOMIALS = but((), (((), (1, 1)),)) + [p("w"), p("u + w.x"), [()], ((((("u", True, 0), 1),), (1, 1)),)]
+NO_DERIVATIVES = but(("u", 0, 0)) + [("w", 0, 0), ("u", -1, 0), ("u", True, 0), ("u", 0, 0, 0)]
+
+
+def refused_in_order(test, call, good, bad):
+    """Looks that each argument is refused by its class, whatever stands behind it.
+
+    bad has, for each argument, a class of refusals and things that are refused by it.
+    """
+    for place, (kind, some) in enumerate(bad):
+        for thing in some:
+            behind = [things_behind[0] for _, things_behind in bad[place + 1 :]]
+            for rest in (list(good[place + 1 :]), behind + list(good[len(bad) :])):
+                with test.assertRaises(kind, msg=repr(type(thing))) as caught:
+                    call(*good[:place], thing, *rest)
+                test.assertIs(type(caught.exception), kind)

@@ -1,0 +1,147 @@
+"""What a CHAIN puts, its STEPS, and NORMAL FORMS by it."""
+
+from rankedchains.chains import first_by, need_chain, way_to
+from rankedchains.errors import TooGreat
+from rankedchains.leaders import need_one
+from rankedchains.polynomials import degree_of, derivatives_in, derived, less, of_derivative, put_into
+from rankedchains.rankings import need_derivative, rising
+
+MOST_ORDER_PUT = 24
+MOST_TERMS = 120
+MOST_DEGREE = 16
+
+
+class Forms:
+    """What one CHAIN puts, and the NORMAL FORMS of DERIVATIVES that were MET, each reckoned once."""
+
+    def __init__(self, ranking, chain):
+        self.ranking = ranking
+        self.chain = chain
+        self.rights = {}
+        self.found = {}
+
+    def right_derived(self, number, by_x, by_y):
+        """The RIGHT of a pair derived as often as told by x and by y."""
+        key = (number, by_x, by_y)
+        if key not in self.rights:
+            if by_y > 0:
+                self.rights[key] = derived(self.right_derived(number, by_x, by_y - 1), "y")
+            elif by_x > 0:
+                self.rights[key] = derived(self.right_derived(number, by_x - 1, 0), "x")
+            else:
+                self.rights[key] = self.chain[number][1]
+        return self.rights[key]
+
+    def equation_derived(self, number, by_x, by_y):
+        """The EQUATION of a pair derived as often as told by x and by y."""
+        name, times_x, times_y = self.chain[number][0]
+        left = of_derivative((name, times_x + by_x, times_y + by_y))
+        return less(left, self.right_derived(number, by_x, by_y))
+
+    def what_is_put(self, derivative):
+        """(NUMBER, I, J, POLYNOMIAL) that is put for a DERIVATIVE, None of one that is FREE."""
+        number = first_by(self.chain, derivative)
+        if number is None:
+            return None
+        if derivative[1] + derivative[2] > MOST_ORDER_PUT:
+            raise TooGreat("nothing is put for a DERIVATIVE of such an ORDER")
+        by_x, by_y = way_to(self.chain[number][0], derivative)
+        return (number, by_x, by_y, self.right_derived(number, by_x, by_y))
+
+    def principal_in(self, polynomial):
+        """A list of the PRINCIPAL DERIVATIVES of a POLYNOMIAL, rising."""
+        found = [one for one in derivatives_in(polynomial) if first_by(self.chain, one) is not None]
+        return rising(self.ranking, found)
+
+    def all_met(self, polynomial):
+        """A list of the DERIVATIVES that are MET, rising."""
+        found = {}
+        waiting = self.principal_in(polynomial)
+        while waiting:
+            derivative = waiting.pop()
+            if derivative not in found:
+                found[derivative] = True
+                waiting.extend(self.principal_in(self.what_is_put(derivative)[3]))
+        return rising(self.ranking, found)
+
+    def form_of(self, polynomial):
+        """The NORMAL FORM; what is found of those MET is kept only where nothing is TooGreat."""
+        fresh = {}
+        for derivative in self.all_met(polynomial):
+            if derivative in self.found:
+                fresh[derivative] = self.found[derivative]
+            else:
+                # All that is MET by it is lower, so that its NORMAL FORM is there by now.
+                fresh[derivative] = self.with_forms(self.what_is_put(derivative)[3], fresh)
+        result = self.with_forms(polynomial, fresh)
+        for derivative in fresh:
+            self.found[derivative] = fresh[derivative]
+        return result
+
+    def with_forms(self, polynomial, forms):
+        """The POLYNOMIAL with NORMAL FORMS in the place of its PRINCIPAL DERIVATIVES."""
+        result = polynomial
+        for derivative in self.in_order_of_putting(polynomial, forms):
+            result = put_into(result, derivative, forms[derivative])
+        if len(result) > MOST_TERMS or degree_of(result) > MOST_DEGREE:
+            raise TooGreat("a NORMAL FORM has too many terms or too great a DEGREE")
+        return result
+
+    def in_order_of_putting(self, polynomial, forms):
+        """The PRINCIPAL DERIVATIVES of a POLYNOMIAL, as their NORMAL FORMS are put in."""
+        # The shortest are put in first, noughts ahead of all, so that less is multiplied.
+        return sorted(self.principal_in(polynomial), key=lambda derivative: len(forms[derivative]))
+
+
+def put_for(ranking, chain, derivative):
+    """(NUMBER, I, J, POLYNOMIAL) that is put for a DERIVATIVE, None of one that is FREE."""
+    need_chain(ranking, chain)
+    need_derivative(ranking, derivative)
+    return Forms(ranking, chain).what_is_put(derivative)
+
+
+def step_of(ranking, chain, polynomial):
+    """(DERIVATIVE, POLYNOMIAL): what a STEP puts for and what comes of it; None of what is REDUCED."""
+    need_by(ranking, chain, polynomial)
+    forms = Forms(ranking, chain)
+    principal = forms.principal_in(polynomial)
+    if not principal:
+        return None
+    greatest = principal[-1]
+    return (greatest, put_into(polynomial, greatest, forms.what_is_put(greatest)[3]))
+
+
+def need_by(ranking, chain, polynomial):
+    """Refuses no RANKING, no CHAIN by it, no POLYNOMIAL OF it."""
+    need_chain(ranking, chain)
+    need_one(ranking, polynomial)
+
+
+def normal(ranking, chain, polynomial):
+    """The NORMAL FORM of a POLYNOMIAL."""
+    need_by(ranking, chain, polynomial)
+    return Forms(ranking, chain).form_of(polynomial)
+
+
+def is_reduced(ranking, chain, polynomial):
+    """Whether a POLYNOMIAL is without PRINCIPAL DERIVATIVES."""
+    need_by(ranking, chain, polynomial)
+    return Forms(ranking, chain).principal_in(polynomial) == []
+
+
+def goes_out(ranking, chain, polynomial):
+    """Whether the NORMAL FORM of a POLYNOMIAL is nought."""
+    return normal(ranking, chain, polynomial) == ()
+
+
+def are_like(ranking, chain, polynomial, other):
+    """Whether the difference of two POLYNOMIALS GOES OUT."""
+    need_by(ranking, chain, polynomial)
+    need_one(ranking, other)
+    return Forms(ranking, chain).form_of(less(polynomial, other)) == ()
+
+
+def met(ranking, chain, polynomial):
+    """A list of the DERIVATIVES that are MET by a POLYNOMIAL, rising."""
+    need_by(ranking, chain, polynomial)
+    return Forms(ranking, chain).all_met(polynomial)
