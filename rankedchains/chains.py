@@ -42,7 +42,8 @@ def need_chain(ranking, chain):
     keys = [rank_key(ranking, leader) for leader in leaders]
     places = list(range(len(chain)))
     _refuse_first("rising", [at == 0 or keys[at - 1] < keys[at] for at in places])
-    _refuse_first("derived", [not _is_kin(leaders[at], leaders[:at]) for at in places])
+    # LEADERS that rise are DERIVED of none but of those ahead.
+    _refuse_first("derived", [not _is_derived_of(leaders[at], leaders[:at]) for at in places])
     _refuse_first("above", [_is_below(ranking, chain[at][1], keys[at]) for at in places])
     _refuse_first("principal", [_is_free_of(chain, right) for _, right in chain])
 
@@ -61,9 +62,9 @@ def is_pair(ranking, thing):
     return derivative_fits(ranking, thing[0]) and polynomial_fits(ranking, thing[1])
 
 
-def _is_kin(leader, others):
-    """Whether a LEADER is DERIVED of one of the others, or one of them of it."""
-    return any([way_to(leader, other) is not None or way_to(other, leader) is not None for other in others])
+def _is_derived_of(leader, others):
+    """Whether a LEADER is DERIVED of one of the others."""
+    return any([way_to(other, leader) is not None for other in others])
 
 
 def _is_below(ranking, polynomial, key):

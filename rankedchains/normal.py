@@ -11,14 +11,13 @@ MOST_TERMS = 120
 MOST_DEGREE = 16
 
 
-class Forms:
-    """What one CHAIN puts, and the NORMAL FORMS of DERIVATIVES that were MET, each reckoned once."""
+class Putting:
+    """What one CHAIN puts, each derived RIGHT reckoned once, and the NORMAL FORMS by it."""
 
     def __init__(self, ranking, chain):
         self.ranking = ranking
         self.chain = chain
         self.rights = {}
-        self.found = {}
 
     def right_derived(self, number, by_x, by_y):
         """The RIGHT of a pair derived as often as told by x and by y."""
@@ -65,18 +64,16 @@ class Forms:
         return rising(self.ranking, found)
 
     def form_of(self, polynomial):
-        """The NORMAL FORM; what is found of those MET is kept only where nothing is TooGreat."""
-        fresh = {}
+        """The NORMAL FORM of a POLYNOMIAL."""
+        return self.with_forms(polynomial, self.forms_met(polynomial))
+
+    def forms_met(self, polynomial):
+        """A dict from the DERIVATIVES that are MET to their NORMAL FORMS."""
+        forms = {}
         for derivative in self.all_met(polynomial):
-            if derivative in self.found:
-                fresh[derivative] = self.found[derivative]
-            else:
-                # All that is MET by it is lower, so that its NORMAL FORM is there by now.
-                fresh[derivative] = self.with_forms(self.what_is_put(derivative)[3], fresh)
-        result = self.with_forms(polynomial, fresh)
-        for derivative in fresh:
-            self.found[derivative] = fresh[derivative]
-        return result
+            # All that is MET by it is lower, so that its NORMAL FORM is there by now.
+            forms[derivative] = self.with_forms(self.what_is_put(derivative)[3], forms)
+        return forms
 
     def with_forms(self, polynomial, forms):
         """The POLYNOMIAL with NORMAL FORMS in the place of its PRINCIPAL DERIVATIVES."""
@@ -97,18 +94,18 @@ def put_for(ranking, chain, derivative):
     """(NUMBER, I, J, POLYNOMIAL) that is put for a DERIVATIVE, None of one that is FREE."""
     need_chain(ranking, chain)
     need_derivative(ranking, derivative)
-    return Forms(ranking, chain).what_is_put(derivative)
+    return Putting(ranking, chain).what_is_put(derivative)
 
 
 def step_of(ranking, chain, polynomial):
     """(DERIVATIVE, POLYNOMIAL): what a STEP puts for and what comes of it; None of what is REDUCED."""
     need_by(ranking, chain, polynomial)
-    forms = Forms(ranking, chain)
-    principal = forms.principal_in(polynomial)
+    putting = Putting(ranking, chain)
+    principal = putting.principal_in(polynomial)
     if not principal:
         return None
     greatest = principal[-1]
-    return (greatest, put_into(polynomial, greatest, forms.what_is_put(greatest)[3]))
+    return (greatest, put_into(polynomial, greatest, putting.what_is_put(greatest)[3]))
 
 
 def need_by(ranking, chain, polynomial):
@@ -120,13 +117,13 @@ def need_by(ranking, chain, polynomial):
 def normal(ranking, chain, polynomial):
     """The NORMAL FORM of a POLYNOMIAL."""
     need_by(ranking, chain, polynomial)
-    return Forms(ranking, chain).form_of(polynomial)
+    return Putting(ranking, chain).form_of(polynomial)
 
 
 def is_reduced(ranking, chain, polynomial):
     """Whether a POLYNOMIAL is without PRINCIPAL DERIVATIVES."""
     need_by(ranking, chain, polynomial)
-    return Forms(ranking, chain).principal_in(polynomial) == []
+    return Putting(ranking, chain).principal_in(polynomial) == []
 
 
 def goes_out(ranking, chain, polynomial):
@@ -138,10 +135,10 @@ def are_like(ranking, chain, polynomial, other):
     """Whether the difference of two POLYNOMIALS GOES OUT."""
     need_by(ranking, chain, polynomial)
     need_one(ranking, other)
-    return Forms(ranking, chain).form_of(less(polynomial, other)) == ()
+    return Putting(ranking, chain).form_of(less(polynomial, other)) == ()
 
 
 def met(ranking, chain, polynomial):
     """A list of the DERIVATIVES that are MET by a POLYNOMIAL, rising."""
     need_by(ranking, chain, polynomial)
-    return Forms(ranking, chain).all_met(polynomial)
+    return Putting(ranking, chain).all_met(polynomial)

@@ -54,9 +54,7 @@ def product(one, other):
 
 
 def quotient(one, other):
-    """The first divided by the second, which isn't NOUGHT."""
-    if other == NOUGHT:
-        raise OutOfPlace("nothing is divided by nought")
+    """The first divided by the second; by NOUGHT is refused as a BOTTOM 0 is."""
     return fraction(one[0] * other[1], one[1] * other[0])
 
 

@@ -1,7 +1,7 @@
 """REDUCE PAPERS: a POLYNOMIAL as a REDUCED one and a sum of derived EQUATIONS."""
 
 from rankedchains.errors import BadPaper
-from rankedchains.normal import MOST_ORDER_PUT, Forms, need_by
+from rankedchains.normal import MOST_ORDER_PUT, Putting, need_by
 from rankedchains.numbers import ONE
 from rankedchains.polynomials import by_powers, constant, of_derivative, plus, times
 from rankedchains.rankings import polynomial_fits
@@ -11,33 +11,29 @@ from rankedchains.words import is_among
 def reduce_paper(ranking, chain, polynomial):
     """A REDUCE PAPER of a POLYNOMIAL, with its NORMAL FORM."""
     need_by(ranking, chain, polynomial)
-    return paper_by(Forms(ranking, chain), polynomial)
-
-
-def paper_by(forms, polynomial):
-    """A REDUCE PAPER of a POLYNOMIAL by the NORMAL FORMS of one CHAIN."""
-    forms.form_of(polynomial)
+    putting = Putting(ranking, chain)
+    forms = putting.forms_met(polynomial)
+    reduced = putting.with_forms(polynomial, forms)
     papers = {}
-    for derivative in forms.all_met(polynomial):
-        number, by_x, by_y, put = forms.what_is_put(derivative)
-        _, rows = _lowered(forms, put, papers)
-        # The derivative less what is put for it is one derived EQUATION, as it is.
-        rows[(number, by_x, by_y)] = constant(ONE)
-        papers[derivative] = rows
-    reduced, rows = _lowered(forms, polynomial, papers)
+    for derivative in forms:
+        number, by_x, by_y, put = putting.what_is_put(derivative)
+        papers[derivative] = _cofactors(putting, put, forms, papers)
+        # The DERIVATIVE less what is put for it is one derived EQUATION, as it is.
+        papers[derivative][(number, by_x, by_y)] = constant(ONE)
+    rows = _cofactors(putting, polynomial, forms, papers)
     return (reduced, tuple([(*place, rows[place]) for place in sorted(rows) if rows[place]]))
 
 
-def _lowered(forms, polynomial, papers):
-    """The NORMAL FORM, and a dict of the COFACTORS by which it is less, from papers of what is MET."""
+def _cofactors(putting, polynomial, forms, papers):
+    """A dict of the COFACTORS by which the NORMAL FORM is less, from those of what is MET."""
     rows = {}
     rest = polynomial
-    for derivative in forms.in_order_of_putting(polynomial, forms.found):
-        cofactor, rest = divided(rest, derivative, forms.found[derivative])
+    for derivative in putting.in_order_of_putting(polynomial, forms):
+        cofactor, rest = divided(rest, derivative, forms[derivative])
         paper = papers[derivative]
         for place in paper:
             rows[place] = plus(rows.get(place, ()), times(cofactor, paper[place]))
-    return rest, rows
+    return rows
 
 
 def divided(polynomial, derivative, right):
@@ -64,10 +60,10 @@ def check_reduce(ranking, chain, polynomial, paper):
         if not _is_row(ranking, chain, row) or (ahead is not None and row[:3] <= ahead):
             raise BadPaper(("row", number))
         ahead = row[:3]
-    forms = Forms(ranking, chain)
-    if forms.principal_in(reduced):
+    putting = Putting(ranking, chain)
+    if putting.principal_in(reduced):
         raise BadPaper("normal")
-    if _sum_of_rows(forms, reduced, rows) != polynomial:
+    if _sum_of_rows(putting, reduced, rows) != polynomial:
         raise BadPaper("sum")
     return reduced
 
@@ -83,9 +79,9 @@ def _is_row(ranking, chain, thing):
     return is_among(by_y, 0, most_by_y) and polynomial_fits(ranking, cofactor) and cofactor != ()
 
 
-def _sum_of_rows(forms, reduced, rows):
+def _sum_of_rows(putting, reduced, rows):
     """A REDUCED POLYNOMIAL and all COFACTORS times their derived EQUATIONS, together."""
     total = reduced
     for number, by_x, by_y, cofactor in rows:
-        total = plus(total, times(cofactor, forms.equation_derived(number, by_x, by_y)))
+        total = plus(total, times(cofactor, putting.equation_derived(number, by_x, by_y)))
     return total

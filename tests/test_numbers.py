@@ -120,6 +120,8 @@ class Reckoned(unittest.TestCase):
     def test_texts(self):
         for one, text in (((0, 1), "0"), ((7, 1), "7"), ((-7, 1), "-7"), ((-3, 2), "-3/2"), ((10, 11), "10/11")):
             self.assertEqual(number_text(one), text)
+        for one, text in (((1, 1), "1"), ((-1, 1), "-1"), ((1, 2), "1/2"), ((-1, 2), "-1/2")):
+            self.assertEqual(number_text(one), text)
 
     def test_texts_of_any_length(self):
         self.assertEqual(number_text((10**5000, 1)), "1" + "0" * 5000)
