@@ -12,24 +12,25 @@ MOST_DEGREE = 16
 
 
 class Putting:
-    """What one CHAIN puts, each derived RIGHT reckoned once, and the NORMAL FORMS by it."""
+    """What one CHAIN puts, and NORMAL FORMS by it: each derived RIGHT, each form of what is MET reckoned once."""
 
     def __init__(self, ranking, chain):
         self.ranking = ranking
         self.chain = chain
         self.rights = {}
+        self.forms = {}
 
     def right_derived(self, number, by_x, by_y):
         """The RIGHT of a pair derived as often as told by x and by y."""
-        key = (number, by_x, by_y)
-        if key not in self.rights:
-            if by_y > 0:
-                self.rights[key] = derived(self.right_derived(number, by_x, by_y - 1), "y")
-            elif by_x > 0:
-                self.rights[key] = derived(self.right_derived(number, by_x - 1, 0), "x")
-            else:
-                self.rights[key] = self.chain[number][1]
-        return self.rights[key]
+        if (number, by_x, by_y) in self.rights:
+            return self.rights[(number, by_x, by_y)]
+        right = self.chain[number][1]
+        for step in range(1, by_x + by_y + 1):
+            key = (number, min(step, by_x), max(step - by_x, 0))
+            if key not in self.rights:
+                self.rights[key] = derived(right, "x" if step <= by_x else "y")
+            right = self.rights[key]
+        return right
 
     def equation_derived(self, number, by_x, by_y):
         """The EQUATION of a pair derived as often as told by x and by y."""
@@ -54,26 +55,29 @@ class Putting:
 
     def all_met(self, polynomial):
         """A list of the DERIVATIVES that are MET, rising."""
+        return self.met_beyond(polynomial, {})
+
+    def met_beyond(self, polynomial, known):
+        """A list of the DERIVATIVES that are MET, rising, but those in a dict, whose own ones are in it, too."""
         found = {}
         waiting = self.principal_in(polynomial)
         while waiting:
             derivative = waiting.pop()
-            if derivative not in found:
+            if derivative not in found and derivative not in known:
                 found[derivative] = True
                 waiting.extend(self.principal_in(self.what_is_put(derivative)[3]))
         return rising(self.ranking, found)
 
     def form_of(self, polynomial):
         """The NORMAL FORM of a POLYNOMIAL."""
-        return self.with_forms(polynomial, self.forms_met(polynomial))
-
-    def forms_met(self, polynomial):
-        """A dict from the DERIVATIVES that are MET to their NORMAL FORMS."""
-        forms = {}
-        for derivative in self.all_met(polynomial):
+        forms = {derivative: self.forms[derivative] for derivative in self.forms}
+        for derivative in self.met_beyond(polynomial, forms):
             # All that is MET by it is lower, so that its NORMAL FORM is there by now.
             forms[derivative] = self.with_forms(self.what_is_put(derivative)[3], forms)
-        return forms
+        result = self.with_forms(polynomial, forms)
+        # They are kept now alone, so that what is TooGreat leaves all as it was.
+        self.forms = forms
+        return result
 
     def with_forms(self, polynomial, forms):
         """The POLYNOMIAL with NORMAL FORMS in the place of its PRINCIPAL DERIVATIVES."""

@@ -11,29 +11,44 @@ from rankedchains.words import is_among
 def reduce_paper(ranking, chain, polynomial):
     """A REDUCE PAPER of a POLYNOMIAL, with its NORMAL FORM."""
     need_by(ranking, chain, polynomial)
-    putting = Putting(ranking, chain)
-    forms = putting.forms_met(polynomial)
-    reduced = putting.with_forms(polynomial, forms)
+    return paper_by(Putting(ranking, chain), polynomial)
+
+
+def paper_by(putting, polynomial):
+    """A REDUCE PAPER of a POLYNOMIAL by the CHAIN that is put with."""
+    reduced = putting.form_of(polynomial)
     papers = {}
-    for derivative in forms:
+    for derivative in putting.all_met(polynomial):
         number, by_x, by_y, put = putting.what_is_put(derivative)
-        papers[derivative] = _cofactors(putting, put, forms, papers)
+        papers[derivative] = _rows_of(putting, put, papers)
         # The DERIVATIVE less what is put for it is one derived EQUATION, as it is.
         papers[derivative][(number, by_x, by_y)] = constant(ONE)
-    rows = _cofactors(putting, polynomial, forms, papers)
+    rows = _rows_of(putting, polynomial, papers)
     return (reduced, tuple([(*place, rows[place]) for place in sorted(rows) if rows[place]]))
 
 
-def _cofactors(putting, polynomial, forms, papers):
+def _rows_of(putting, polynomial, papers):
     """A dict of the COFACTORS by which the NORMAL FORM is less, from those of what is MET."""
     rows = {}
-    rest = polynomial
-    for derivative in putting.in_order_of_putting(polynomial, forms):
-        cofactor, rest = divided(rest, derivative, forms[derivative])
+    for derivative, cofactor in cofactors(putting, polynomial):
         paper = papers[derivative]
         for place in paper:
             rows[place] = plus(rows.get(place, ()), times(cofactor, paper[place]))
     return rows
+
+
+def cofactors(putting, polynomial):
+    """Pairs (DERIVATIVE, COFACTOR): by their sum, times DERIVATIVE less NORMAL FORM, the NORMAL FORM is less.
+
+    It asks for no NORMAL FORM that the putting doesn't have yet.
+    """
+    forms = putting.forms
+    pairs = []
+    rest = polynomial
+    for derivative in putting.in_order_of_putting(polynomial, forms):
+        cofactor, rest = divided(rest, derivative, forms[derivative])
+        pairs.append((derivative, cofactor))
+    return pairs
 
 
 def divided(polynomial, derivative, right):

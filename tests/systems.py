@@ -1,9 +1,24 @@
 """RANKINGS and CHAINS that several tests look at, and POLYNOMIALS made for them."""
 
+import functools
+from fractions import Fraction
+
+from rankedchains.chains import chain_in_order, derived_by, equation_of, least_common
+from rankedchains.leaders import led_of, monomials_compared
 from rankedchains.numbers import fraction
-from rankedchains.polynomials import constant, of_derivative, plus, times
-from rankedchains.rankings import all_to
-from things import chain
+from rankedchains.polynomials import (
+    constant,
+    derivatives_in,
+    derived,
+    less,
+    of_derivative,
+    plus,
+    put_into,
+    scaled,
+    times,
+)
+from rankedchains.rankings import all_to, in_rank, rank_compared
+from things import chain, p
 
 UV = ("total", ("u", "v"), ("x", "y"))
 YX = ("total", ("u", "v"), ("y", "x"))
@@ -42,3 +57,150 @@ def some_polynomial(chance, ranking, order=3, terms=3, factors=2):
             part = times(part, of_derivative(chance.choice(every)))
         total = plus(total, part)
     return total
+
+
+def put_by_hand(ranking, pairs, derivative):
+    """What the first pair of whose LEADER it is a derivative puts."""
+    for number, (leader, right) in enumerate(pairs):
+        by_x, by_y = derivative[1] - leader[1], derivative[2] - leader[2]
+        if leader[0] == derivative[0] and by_x >= 0 and by_y >= 0:
+            return number, by_x, by_y, derived(derived(right, "y", many=by_y), "x", many=by_x)
+    return None
+
+
+def normal_by_hand(ranking, pairs, polynomial):
+    """STEPS by the words of [20], each for the greatest PRINCIPAL DERIVATIVE."""
+    while True:
+        greatest = None
+        for derivative in derivatives_in(polynomial):
+            if put_by_hand(ranking, pairs, derivative) is not None:
+                if greatest is None or rank_compared(ranking, derivative, greatest) > 0:
+                    greatest = derivative
+        if greatest is None:
+            return polynomial
+        polynomial = put_into(polynomial, greatest, put_by_hand(ranking, pairs, greatest)[3])
+
+
+def rows_by_hand(ranking, polynomials):
+    """REDUCED ROWS by a table of numbers, a column for each MONOMIAL, the greatest one first."""
+    greater = functools.cmp_to_key(lambda one, other: monomials_compared(ranking, one, other))
+    columns = sorted({monomial for one in polynomials for monomial, _ in one}, key=greater, reverse=True)
+    rows = [[Fraction(*dict(one).get(monomial, (0, 1))) for monomial in columns] for one in polynomials]
+    done = 0
+    for column in range(len(columns)):
+        found = [row for row in rows[done:] if row[column]]
+        if not found:
+            continue
+        rows.remove(found[0])
+        head = [number / found[0][column] for number in found[0]]
+        rows = [[a - row[column] * b for a, b in zip(row, head)] for row in rows]
+        rows.insert(done, head)
+        done += 1
+    return tuple(
+        tuple(sorted((one, fraction(a.numerator, a.denominator)) for one, a in zip(columns, row) if a))
+        for row in rows[:done]
+    )
+
+
+def polynomials_of(*texts):
+    """A tuple of the POLYNOMIALS of texts."""
+    return tuple(p(text) for text in texts)
+
+
+def below(ranking, every, derivative):
+    """Those of the DERIVATIVES that are below one."""
+    return [one for one in every if rank_compared(ranking, one, derivative) < 0]
+
+
+def some_chain(chance, ranking, most=4, order=3):
+    """A CHAIN by the RANKING, of LEADERS and RIGHTS by chance."""
+    every = all_to(ranking, order)
+    leaders = []
+    for one in chance.sample(every, min(most, len(every))):
+        if all(derived_by(one, other) is None and derived_by(other, one) is None for other in leaders):
+            leaders.append(one)
+    free = [one for one in every if all(derived_by(other, one) is None for other in leaders)]
+    pairs = []
+    for leader in leaders:
+        right = ()
+        lower = below(ranking, free, leader)
+        for _ in range(chance.randint(0, 2)):
+            part = constant(fraction(chance.randint(-2, 2), chance.randint(1, 2)))
+            for _ in range(chance.randint(0, 2) if lower else 0):
+                part = times(part, of_derivative(chance.choice(lower)))
+            right = plus(right, part)
+        pairs.append((leader, right))
+    return chain_in_order(ranking, pairs)
+
+
+def some_sum(chance, polynomials):
+    """A sum of POLYNOMIALS, each times a number by chance."""
+    total = ()
+    for one in polynomials:
+        total = plus(total, scaled(one, fraction(chance.randint(-3, 3), chance.randint(1, 3))))
+    return total
+
+
+def told_by(ranking, pairs, number, common):
+    leader, right = pairs[number]
+    return derived(derived(right, "x", many=common[1] - leader[1]), "y", many=common[2] - leader[2])
+
+
+def conditions_by_hand(ranking, pairs):
+    told = []
+    for low in range(len(pairs)):
+        for high in range(low + 1, len(pairs)):
+            common = least_common(pairs[low][0], pairs[high][0])
+            if common is not None:
+                unlike = less(told_by(ranking, pairs, low, common), told_by(ranking, pairs, high, common))
+                told.append((low, high, normal_by_hand(ranking, pairs, unlike)))
+    return told
+
+
+def is_in_by_hand(ranking, polynomials, one):
+    """Whether one more makes no more REDUCED ROWS."""
+    return len(rows_by_hand(ranking, polynomials)) == len(rows_by_hand(ranking, [*polynomials, one]))
+
+
+def closing_by_hand(ranking, equations):
+    """What CLOSING tells, and a list of what joined, by the words of [32], whatever the bounds."""
+    pairs, joined, pending = [], [], list(rows_by_hand(ranking, equations))
+    while True:
+        pending = list(rows_by_hand(ranking, [normal_by_hand(ranking, pairs, one) for one in pending]))
+        if p("1") in pending:
+            return ("contradiction",), joined
+        led = {row: led_of(ranking, row) for row in pending if led_of(ranking, row) is not None}
+        if led:
+            least = in_rank(ranking, [leader for leader, _ in led.values()])[0]
+            row = next(row for row in led if led[row][0] == least)
+            left = [pair for pair in pairs if derived_by(least, pair[0]) is not None]
+            pairs = list(chain_in_order(ranking, [pair for pair in pairs if pair not in left] + [led[row]]))
+            for at, (leader, right) in enumerate(pairs):
+                pairs[at] = (leader, normal_by_hand(ranking, pairs, right))
+            joined.append((least, tuple(leader for leader, _ in left)))
+            pending = [one for one in pending if one != row] + [equation_of(ranking, pair) for pair in left]
+            continue
+        more = [one for _, _, one in conditions_by_hand(ranking, pairs) if not is_in_by_hand(ranking, pending, one)]
+        if not more:
+            break
+        pending = pending + more
+    return (("knot", tuple(pairs), tuple(pending)) if pending else ("closed", tuple(pairs))), joined
+
+
+def some_led(chance, ranking, order, terms, factors):
+    """A POLYNOMIAL that is LED: a DERIVATIVE, and some terms of lower ones."""
+    every = all_to(ranking, order)
+    at = chance.randrange(1, len(every))
+    total = of_derivative(every[at])
+    for _ in range(terms):
+        part = constant(fraction(chance.choice([1, 1, -1, 2, -2, 3]), chance.choice([1, 1, 1, 2])))
+        for _ in range(chance.randint(1, factors)):
+            part = times(part, of_derivative(chance.choice(every[:at])))
+        total = plus(total, part)
+    return total
+
+
+def linear_to(chance, ranking, order, terms):
+    """A sum of DERIVATIVES, each times a number."""
+    every = all_to(ranking, order)
+    return some_sum(chance, [of_derivative(chance.choice(every)) for _ in range(terms)])

@@ -88,11 +88,31 @@ FUNCTIONS = {
         "reduce_paper": "(ranking, chain, polynomial)",
         "check_reduce": "(ranking, chain, polynomial, paper)",
     },
+    "tables": {
+        "table": "(ranking, chain, order)",
+        "relations": "(ranking, chain, polynomials)",
+    },
+    "conditions": {
+        "conditions": "(ranking, chain)",
+        "is_closed": "(ranking, chain)",
+        "need_closed": "(ranking, chain)",
+    },
+    "spans": {
+        "need_equations": "(ranking, equations)",
+        "reduced_rows": "(ranking, equations)",
+        "is_in_span": "(ranking, equations, polynomial)",
+    },
+    "closing": {
+        "closing": "(ranking, equations)",
+        "joinings": "(ranking, equations)",
+        "closed_chain": "(ranking, equations)",
+    },
 }
 VALUES = {
     "words": {"AXES": ("x", "y")},
     "numbers": {"NOUGHT": (0, 1), "ONE": (1, 1)},
     "rankings": {"SORTS": ("total", "names"), "AXES_ALL": (("x",), ("x", "y"), ("y", "x"))},
+    "spans": {"MOST_EQUATIONS": 12},
 }
 CLASSES = {
     "errors": {
@@ -108,6 +128,22 @@ CLASSES = {
         "NoCase": "(number)",
         "Contradicted": "(number)",
         "Knotted": "(number)",
+    },
+    "reducer": {"Reducer": "(ranking, chain)"},
+}
+METHODS = {
+    "reducer": {
+        "Reducer": {
+            "normal": "(self, polynomial)",
+            "reduce_paper": "(self, polynomial)",
+            "are_like": "(self, polynomial, other)",
+            "known": "(self)",
+            "knows": "(self, derivative)",
+            "forget": "(self)",
+            "copied": "(self)",
+            "__eq__": "(self, other)",
+            "__len__": "(self)",
+        },
     },
 }
 
@@ -126,6 +162,13 @@ class Interface(unittest.TestCase):
 
     def test_classes(self):
         self.looked_at(CLASSES)
+
+    def test_methods_stand_in_the_class_itself(self):
+        for name, classes in METHODS.items():
+            module = importlib.import_module(f"rankedchains.{name}")
+            for kind, parts in classes.items():
+                for part, due in parts.items():
+                    self.assertEqual(str(inspect.signature(vars(getattr(module, kind))[part])), due, part)
 
     def test_values(self):
         for name, parts in VALUES.items():

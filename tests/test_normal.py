@@ -35,30 +35,11 @@ from systems import (
     UV,
     WAVE,
     high,
+    normal_by_hand,
+    put_by_hand,
     some_polynomial,
     sum_of_terms,
 )
-
-def put_by_hand(ranking, pairs, derivative):
-    """What the first pair of whose LEADER it is a derivative puts."""
-    for number, (leader, right) in enumerate(pairs):
-        by_x, by_y = derivative[1] - leader[1], derivative[2] - leader[2]
-        if leader[0] == derivative[0] and by_x >= 0 and by_y >= 0:
-            return number, by_x, by_y, derived(derived(right, "y", many=by_y), "x", many=by_x)
-    return None
-
-
-def normal_by_hand(ranking, pairs, polynomial):
-    """STEPS by the words of [20], each for the greatest PRINCIPAL DERIVATIVE."""
-    while True:
-        greatest = None
-        for derivative in derivatives_in(polynomial):
-            if put_by_hand(ranking, pairs, derivative) is not None:
-                if greatest is None or rank_compared(ranking, derivative, greatest) > 0:
-                    greatest = derivative
-        if greatest is None:
-            return polynomial
-        polynomial = put_into(polynomial, greatest, put_by_hand(ranking, pairs, greatest)[3])
 
 
 class Put(unittest.TestCase):

@@ -119,6 +119,14 @@ NO_RANKINGS = things()
 NO_CHAINS = but(())
 NO_POLYNOMIALS = but((), (((), (1, 1)),)) + [p("w"), p("u + w.x"), [()], ((((("u", True, 0), 1),), (1, 1)),)]
 NO_DERIVATIVES = but(("u", 0, 0)) + [("w", 0, 0), ("u", -1, 0), ("u", True, 0), ("u", 0, 0, 0)]
+NO_EQUATIONS = [thing for thing in things() if not isinstance(thing, tuple)] + [
+    [p("u")],
+    (p("u"),) * 13,
+    ((),) * 13,
+    (None,) * 13,
+]
+# EQUATIONS with something else among them.
+WITH_NONE = [(thing,) for thing in NO_POLYNOMIALS] + [(p("u"), p("v"), None), (p("u"), Odd()), (Yes(), p("u"))]
 
 
 def refused_in_order(test, call, good, bad):
