@@ -1,9 +1,12 @@
 """RANKINGS and CHAINS that several tests look at, and POLYNOMIALS made for them."""
 
 import functools
+import random
 from fractions import Fraction
 
 from rankedchains.chains import chain_in_order, derived_by, equation_of, least_common
+from rankedchains.closing import closing
+from rankedchains.errors import TooGreat
 from rankedchains.leaders import led_of, monomials_compared
 from rankedchains.numbers import fraction
 from rankedchains.polynomials import (
@@ -23,6 +26,7 @@ from things import chain, p
 UV = ("total", ("u", "v"), ("x", "y"))
 YX = ("total", ("u", "v"), ("y", "x"))
 NAMES = ("names", ("u", "v", "w"), ("x", "y"))
+YX_NAMES = ("names", ("v", "u"), ("y", "x"))
 ONE_AXIS = ("total", ("u", "v"), ("x",))
 
 HEAT = (UV, chain("u.xx = u.y"))
@@ -204,3 +208,20 @@ def linear_to(chance, ranking, order, terms):
     """A sum of DERIVATIVES, each times a number."""
     every = all_to(ranking, order)
     return some_sum(chance, [of_derivative(chance.choice(every)) for _ in range(terms)])
+
+
+def some_systems(seed, many):
+    """RANKINGS and EQUATIONS by chance of which CLOSING tells something, and that."""
+    chance = random.Random(seed)
+    while many:
+        ranking = chance.choice((UV, YX, NAMES, ONE_AXIS, YX_NAMES))
+        order, terms, factors = chance.randint(1, 3), chance.randint(1, 3), chance.choice((1, 1, 2))
+        equations = [some_led(chance, ranking, order, terms, factors) for _ in range(chance.randint(1, 3))]
+        if chance.random() < 0.2:
+            equations.append(some_polynomial(chance, ranking, 2))
+        try:
+            told = closing(ranking, tuple(equations))
+        except TooGreat:
+            continue
+        many -= 1
+        yield ranking, tuple(equations), told

@@ -17,6 +17,7 @@ from systems import (
     UV,
     WAVE,
     YX,
+    YX_NAMES,
     closing_by_hand,
     high,
     linear_to,
@@ -24,12 +25,12 @@ from systems import (
     polynomials_of,
     some_led,
     some_polynomial,
+    some_systems,
     sum_of_terms,
 )
 from things import NO_EQUATIONS, NO_RANKINGS, WITH_NONE, chain, d, p, refused_in_order
 
 UVW = ("total", ("u", "v", "w"), ("x", "y"))
-YX_NAMES = ("names", ("v", "u"), ("y", "x"))
 # By these 24 pairs join, and 25.
 JOIN_24 = ("-u.yyyy + w", "u.xxy + v.xx - w.y", "-v.yyyy + w.xxx", "u.xxx - v.xyyy", "-u - u.xx + v.xx")
 JOIN_25 = ("-u - u.xx + v.xxy", "-u.xxx", "-u.y - v.y - w.xxx", "-v.xy + v.xx + w.yyy")
@@ -37,23 +38,6 @@ JOIN_25 = ("-u - u.xx + v.xxy", "-u.xxx", "-u.y - v.y - w.xxx", "-v.xy + v.xx + 
 
 def told_of(ranking, *texts):
     return closing(ranking, polynomials_of(*texts))
-
-
-def some_systems(seed, many):
-    """RANKINGS and EQUATIONS by chance of which CLOSING tells something, and that."""
-    chance = random.Random(seed)
-    while many:
-        ranking = chance.choice((UV, YX, NAMES, ONE_AXIS, YX_NAMES))
-        order, terms, factors = chance.randint(1, 3), chance.randint(1, 3), chance.choice((1, 1, 2))
-        equations = [some_led(chance, ranking, order, terms, factors) for _ in range(chance.randint(1, 3))]
-        if chance.random() < 0.2:
-            equations.append(some_polynomial(chance, ranking, 2))
-        try:
-            told = closing(ranking, tuple(equations))
-        except TooGreat:
-            continue
-        many -= 1
-        yield ranking, tuple(equations), told
 
 
 class Told(unittest.TestCase):

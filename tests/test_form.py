@@ -30,6 +30,10 @@ BARRED = set(
     "copyright credits delattr dir eval exec exit gc getattr globals hasattr help id importlib license locals "
     "methodcaller os quit setattr super type vars sys format format_map".split()
 )
+BARRED_ATTRIBUTES = set(
+    "items keys values pop update append clear extend insert remove reverse setdefault sort args encode decode hex "
+    "fromhex format".split()
+)
 BARRED_WORDS = re.compile(
     r"\b(type|typing|typing_extensions|enum|Enum|IntEnum|StrEnum|Flag|IntFlag|Generic|Protocol|ABC|ABCMeta|"
     r"namedtuple|NamedTuple|TypedDict|TYPE_CHECKING|abstractmethod)\b|dataclass|overload|contextmanager"
@@ -216,6 +220,31 @@ class Names(unittest.TestCase):
                     self.assertIn(node.id, BUILTINS, f"{name}:{node.lineno}")
                 if isinstance(node, ast.Attribute):
                     self.assertIn(node.attr, METHODS | own, f"{name}:{node.lineno}")
+
+    def test_attributes(self):
+        stored = {}
+        methods = {}
+        for name, tree in trees():
+            for kind in [node for node in ast.walk(tree) if isinstance(node, ast.ClassDef)]:
+                methods[kind.name] = {node.name for node in kind.body if isinstance(node, ast.FunctionDef)}
+                stored[kind.name] = {
+                    node.attr
+                    for node in ast.walk(kind)
+                    if isinstance(node, ast.Attribute) and isinstance(node.ctx, ast.Store)
+                }
+            for node in ast.walk(tree):
+                if isinstance(node, ast.Attribute) and isinstance(node.ctx, ast.Store):
+                    self.assertNotIn(node.attr, BARRED_ATTRIBUTES | BARRED, f"{name}:{node.lineno}")
+        for kind, found in stored.items():
+            self.assertEqual(found & methods[kind], set(), kind)
+
+    def test_stars_in_calls_stand_over_names(self):
+        for name, tree in trees():
+            for node in ast.walk(tree):
+                if isinstance(node, ast.Call):
+                    for part in node.args:
+                        if isinstance(part, ast.Starred):
+                            self.assertIsInstance(part.value, (ast.Name, ast.Attribute), f"{name}:{node.lineno}")
 
     def test_names_that_are_read_are_bound(self):
         for name, tree in trees():

@@ -107,6 +107,35 @@ FUNCTIONS = {
         "joinings": "(ranking, equations)",
         "closed_chain": "(ranking, equations)",
     },
+    "closingpaper": {
+        "paper_rows": "(ranking, equations, rows)",
+        "closing_paper": "(ranking, equations)",
+        "check_closing": "(ranking, equations, told, paper)",
+    },
+    "freedoms": {
+        "is_free": "(ranking, chain, derivative)",
+        "free_to": "(ranking, chain, order)",
+        "principal_to": "(ranking, chain, order)",
+        "needed": "(ranking, chain, length)",
+        "need_paper": "(ranking, chain, length)",
+        "check_needs": "(ranking, chain, length, paper)",
+    },
+    "cones": {
+        "free_cones": "(ranking, chain)",
+        "principal_cones": "(ranking, chain)",
+        "is_cone": "(ranking, thing)",
+        "cone_has": "(ranking, cone, derivative)",
+        "check_cones": "(ranking, chain, paper)",
+    },
+    "counts": {
+        "counts": "(ranking, chain, *, many=6)",
+        "counts_later": "(ranking, chain)",
+    },
+    "completing": {
+        "completed": "(ranking, chain)",
+        "gaps": "(ranking, chain)",
+        "has_gaps": "(ranking, chain)",
+    },
 }
 VALUES = {
     "words": {"AXES": ("x", "y")},
