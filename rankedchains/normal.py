@@ -3,12 +3,27 @@
 from rankedchains.chains import first_by, need_chain, way_to
 from rankedchains.errors import TooGreat
 from rankedchains.leaders import need_one
-from rankedchains.polynomials import degree_of, derivatives_in, derived, less, of_derivative, put_into
+from rankedchains.polynomials import (
+    add_term,
+    degree_of,
+    derivatives_in,
+    derived,
+    less,
+    monomials_together,
+    of_derivative,
+    polynomial_of,
+    put_into,
+)
 from rankedchains.rankings import need_derivative, rising
 
 MOST_ORDER_PUT = 24
 MOST_TERMS = 120
 MOST_DEGREE = 16
+
+# From so many products on a short look tells first whether it's worth while to reckon all of them.
+MANY_PRODUCTS = 20000
+# It stands in no POLYNOMIAL that is handed in, as it has no NAME.
+NAMELESS = ("", 0, 0)
 
 
 class Putting:
@@ -81,9 +96,13 @@ class Putting:
 
     def with_forms(self, polynomial, forms):
         """The POLYNOMIAL with NORMAL FORMS in the place of its PRINCIPAL DERIVATIVES."""
-        result = polynomial
-        for derivative in self.in_order_of_putting(polynomial, forms):
-            result = put_into(result, derivative, forms[derivative])
+        order = self.in_order_of_putting(polynomial, forms)
+        if many_products(polynomial, forms) > MANY_PRODUCTS:
+            shadows = {derivative: shadow_of(forms[derivative], forms) for derivative in order}
+            # A shadow has as many terms at most as that of which it is.
+            if len(all_put(shadow_of(polynomial, forms), order, shadows)) > MOST_TERMS:
+                raise TooGreat("a NORMAL FORM has too many terms")
+        result = all_put(polynomial, order, forms)
         if len(result) > MOST_TERMS or degree_of(result) > MOST_DEGREE:
             raise TooGreat("a NORMAL FORM has too many terms or too great a DEGREE")
         return result
@@ -92,6 +111,52 @@ class Putting:
         """The PRINCIPAL DERIVATIVES of a POLYNOMIAL, as their NORMAL FORMS are put in."""
         # The shortest are put in first, noughts ahead of all, so that less is multiplied.
         return sorted(self.principal_in(polynomial), key=lambda derivative: len(forms[derivative]))
+
+
+def all_put(polynomial, order, forms):
+    """The POLYNOMIAL with forms in the place of DERIVATIVES, one behind the other."""
+    result = polynomial
+    for derivative in order:
+        result = put_into(result, derivative, forms[derivative])
+    return result
+
+
+def many_products(polynomial, forms):
+    """How many terms there are at most when forms are put into a POLYNOMIAL, like ones not brought together."""
+    total = 0
+    for monomial, _ in polynomial:
+        many = 1
+        for derivative, power in monomial:
+            if derivative in forms:
+                for _ in range(min(power, MOST_DEGREE)):
+                    many = many * len(forms[derivative])
+        total = total + many
+    return total
+
+
+def shadow_of(polynomial, forms):
+    """The POLYNOMIAL with powers of one DERIVATIVE alone for all DERIVATIVES for which there are no forms.
+
+    Sums, products and what is put have shadows that are sums, products and put of shadows.
+    """
+    total = {}
+    for monomial, number in polynomial:
+        weight = 0
+        kept = ()
+        for derivative, power in monomial:
+            if derivative in forms:
+                kept = (*kept, (derivative, power))
+            else:
+                weight = weight + power * _weight_of(derivative)
+        lone = ((NAMELESS, weight),) if weight > 0 else ()
+        add_term(total, monomials_together(lone, kept), number)
+    return polynomial_of(total)
+
+
+def _weight_of(derivative):
+    """A power for a DERIVATIVE, so that unlike ones have unlike powers mostly."""
+    name, by_x, by_y = derivative
+    return 1 + (sum([ord(letter) for letter in name]) * 7 + by_x * 5 + by_y * 17) % 61
 
 
 def put_for(ranking, chain, derivative):

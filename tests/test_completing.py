@@ -26,10 +26,9 @@ from systems import (
     some_systems,
     sum_of_terms,
 )
-from things import NO_CHAINS, NO_RANKINGS, chain, d, p, refused_in_order
+from things import NO_CHAINS_OF_UV, NO_RANKINGS, chain, d, p, refused_in_order
 
 U = ("total", ("u",), ("x", "y"))
-NO_CHAIN_HERE = NO_CHAINS + [list(HEAT[1]), chain("u = u"), chain("u.xx = 0", "u = 0"), chain("w = 0")]
 STAIRS = (U, chain("u.yy = 0", "u.xxy = u", "u.xxxx = u.x"))
 
 
@@ -170,7 +169,7 @@ class Gaps(unittest.TestCase):
 class Refused(unittest.TestCase):
     def test_in_order(self):
         for call in (completed, gaps, has_gaps):
-            refused_in_order(self, call, HEAT, ((BadRanking, NO_RANKINGS), (BadChain, NO_CHAIN_HERE)))
+            refused_in_order(self, call, HEAT, ((BadRanking, NO_RANKINGS), (BadChain, NO_CHAINS_OF_UV)))
 
     def test_what_is_handed_in_is_as_it_was(self):
         ranking, pairs = (UV, chain("u.y = u", "u.x = u^2"))

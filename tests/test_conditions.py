@@ -24,7 +24,7 @@ from systems import (
     some_chain,
     sum_of_terms,
 )
-from things import NO_CHAINS, NO_RANKINGS, chain, d, p, refused_in_order
+from things import NO_CHAINS_OF_UV, NO_RANKINGS, chain, d, p, refused_in_order
 
 GRID = (UV, chain("u.yyy = u", "u.xyy = 0", "u.xxy = u.y", "u.xxx = u.yy + u"))
 TOO_GREAT = (UV, chain("u.y = u^9", "u.x = u^9*u"))
@@ -141,18 +141,9 @@ class Closed(unittest.TestCase):
 
 
 class Refused(unittest.TestCase):
-    NO_CHAINS = NO_CHAINS + [
-        list(HEAT[1]),
-        chain("u = u"),
-        chain("u.xx = 0", "u = 0"),
-        chain("w = 0"),
-        chain("u.x = 0", "u.xy = 0"),
-        chain("v = 0", "u = v"),
-    ]
-
     def test_in_order(self):
         for call in (conditions, is_closed, need_closed):
-            refused_in_order(self, call, HEAT, ((BadRanking, NO_RANKINGS), (BadChain, self.NO_CHAINS)))
+            refused_in_order(self, call, HEAT, ((BadRanking, NO_RANKINGS), (BadChain, NO_CHAINS_OF_UV)))
 
     def test_places(self):
         for call in (conditions, is_closed, need_closed):

@@ -21,11 +21,10 @@ from systems import (
     YX_NAMES,
     some_chain,
 )
-from things import NO_CHAINS, NO_DERIVATIVES, NO_RANKINGS, Odd, Yes, chain, d, refused_in_order, things
+from things import NO_CHAINS_OF_UV, NO_DERIVATIVES, NO_RANKINGS, Odd, Yes, chain, d, refused_in_order, things
 
 U = ("total", ("u",), ("x", "y"))
 UVW_X = ("names", ("w", "u", "v"), ("x",))
-NO_CHAIN_HERE = NO_CHAINS + [list(HEAT[1]), chain("u = u"), chain("u.xx = 0", "u = 0"), chain("w = 0")]
 CORNERS = (U, chain("u.xxy = 0", "u.yyyy = 0", "u.xxxxx = u"))
 NO_CONES = things() + [
     [d("u"), ()],
@@ -146,7 +145,7 @@ class Told(unittest.TestCase):
 
     def test_refused_in_order(self):
         for call in (free_cones, principal_cones):
-            refused_in_order(self, call, HEAT, ((BadRanking, NO_RANKINGS), (BadChain, NO_CHAIN_HERE)))
+            refused_in_order(self, call, HEAT, ((BadRanking, NO_RANKINGS), (BadChain, NO_CHAINS_OF_UV)))
 
 
 class Cones(unittest.TestCase):
@@ -347,7 +346,7 @@ class Papers(unittest.TestCase):
 
     def test_refused_in_order(self):
         good = (*HEAT, (free_cones(*HEAT), principal_cones(*HEAT)))
-        bad = ((BadRanking, NO_RANKINGS), (BadChain, NO_CHAIN_HERE), (BadPaper, things()))
+        bad = ((BadRanking, NO_RANKINGS), (BadChain, NO_CHAINS_OF_UV), (BadPaper, things()))
         refused_in_order(self, check_cones, good, bad)
 
 

@@ -9,11 +9,10 @@ from rankedchains.counts import counts, counts_later
 from rankedchains.errors import BadChain, BadRanking, OutOfPlace, TooGreat
 from rankedchains.freedoms import free_to
 from systems import BY_NAMES, EMPTY, HEAT, ONE_AXIS, OPEN, SQUARES, SWING, UV, WAVE, YX, linear_to, some_chain
-from things import NO_CHAINS, NO_RANKINGS, Odd, Yes, chain, refused_in_order, things
+from things import NO_CHAINS_OF_UV, NO_RANKINGS, Odd, Yes, chain, refused_in_order, things
 
 U = ("total", ("u",), ("x", "y"))
 UVW = ("total", ("u", "v", "w"), ("x", "y"))
-NO_CHAIN_HERE = NO_CHAINS + [list(HEAT[1]), chain("u = u"), chain("u.xx = 0", "u = 0"), chain("w = 0")]
 NO_MANY = [thing for thing in things() if isinstance(thing, bool) or not isinstance(thing, int)] + [-1, 14, 10**30]
 
 
@@ -142,7 +141,7 @@ class Refused(unittest.TestCase):
     def test_in_order(self):
         by_names = ("names", ("u", "v"), ("x", "y"))
         for call in (counts, counts_later):
-            refused_in_order(self, call, HEAT, ((BadRanking, NO_RANKINGS), (BadChain, NO_CHAIN_HERE)))
+            refused_in_order(self, call, HEAT, ((BadRanking, NO_RANKINGS), (BadChain, NO_CHAINS_OF_UV)))
             with self.assertRaises(OutOfPlace):
                 call(*BY_NAMES)
             with self.assertRaises(OutOfPlace):

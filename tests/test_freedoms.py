@@ -28,7 +28,7 @@ from systems import (
     sum_of_terms,
 )
 from things import (
-    NO_CHAINS,
+    NO_CHAINS_OF_UV,
     NO_DERIVATIVES,
     NO_RANKINGS,
     Odd,
@@ -41,7 +41,6 @@ from things import (
 )
 
 NAMES_ONE_AXIS = ("names", ("u", "v", "w"), ("x",))
-NO_CHAIN_HERE = NO_CHAINS + [list(HEAT[1]), chain("u = u"), chain("u.xx = 0", "u = 0"), chain("w = 0")]
 NO_WHOLE = [thing for thing in things() if isinstance(thing, bool) or not isinstance(thing, int)]
 NO_ORDERS = NO_WHOLE + [-1, 13, 10**30]
 NO_LENGTHS = NO_WHOLE + [-1, 9, 10**30]
@@ -104,7 +103,7 @@ class Free(unittest.TestCase):
                         self.assertIs(is_free(ranking, pairs, one), one in free)
 
     def test_refused(self):
-        bad = ((BadRanking, NO_RANKINGS), (BadChain, NO_CHAIN_HERE))
+        bad = ((BadRanking, NO_RANKINGS), (BadChain, NO_CHAINS_OF_UV))
         refused_in_order(self, is_free, (*HEAT, d("u")), (*bad, (OutOfPlace, NO_DERIVATIVES)))
         for call in (free_to, principal_to):
             refused_in_order(self, call, (*HEAT, 3), (*bad, (OutOfPlace, NO_ORDERS)))
@@ -183,7 +182,7 @@ class Needed(unittest.TestCase):
         self.assertEqual(needed(NAMES, ((d("v"), raised(p("w"), 17)),), 0), ())
 
     def test_refused_in_order(self):
-        bad = ((BadRanking, NO_RANKINGS), (BadChain, NO_CHAIN_HERE), (OutOfPlace, NO_LENGTHS))
+        bad = ((BadRanking, NO_RANKINGS), (BadChain, NO_CHAINS_OF_UV), (OutOfPlace, NO_LENGTHS))
         for call in (needed, need_paper):
             refused_in_order(self, call, (*HEAT, 3), bad)
         papers = (BadPaper, things())

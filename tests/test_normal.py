@@ -328,6 +328,23 @@ class Bounds(unittest.TestCase):
         one = times(times(sum_of_terms("u", 20), sum_of_terms("w", 20)), p("v"))
         self.stands(NAMES, pairs, one, ())
 
+    def test_far_beyond(self):
+        # Some 10**9 terms: none of them need be reckoned.
+        pairs = ((d("v"), sum_of_terms("w", 60)),)
+        for text in ("v^8", "v.xx^8*v^4 + u", "v^5*u.x - v^6"):
+            with self.assertRaises(TooGreat):
+                normal(NAMES, pairs, p(text))
+
+    def test_many_products_that_go_against_each_other(self):
+        terms = sum_of_terms("w", 8)
+        pairs = ((d("v"), terms),)
+        one = times(less(raised(p("v"), 4), raised(terms, 4)), sum_of_terms("u", 6))
+        self.assertEqual(normal(NAMES, pairs, one), ())
+        more = times(sum_of_terms("w", 121), p("u^2"))
+        self.assertEqual(normal(NAMES, pairs, plus(one, more[1:])), more[1:])
+        with self.assertRaises(TooGreat):
+            normal(NAMES, pairs, plus(one, more))
+
     def test_degrees(self):
         self.stands(UV, (), raised(p("u"), 16), raised(p("u"), 16))
         self.too_great(UV, (), raised(p("u"), 17))

@@ -10,7 +10,7 @@ from rankedchains.rankings import in_rank
 from rankedchains.reducepaper import check_reduce, reduce_paper
 from rankedchains.reducer import Reducer
 from systems import ALL, HEAT, NAMES, ONE_AXIS, OPEN, SQUARES, SWING, UV, high, some_polynomial, sum_of_terms
-from things import NO_CHAINS, NO_DERIVATIVES, NO_POLYNOMIALS, NO_RANKINGS, Odd, Yes, chain, d, p, refused_in_order, things
+from things import NO_CHAINS_OF_UV, NO_DERIVATIVES, NO_POLYNOMIALS, NO_RANKINGS, Odd, Yes, chain, d, p, refused_in_order, things
 
 
 class Told(unittest.TestCase):
@@ -200,8 +200,7 @@ class Copies(unittest.TestCase):
 
 class Refused(unittest.TestCase):
     def test_in_order(self):
-        no_chains = NO_CHAINS + [list(HEAT[1]), chain("u = u"), chain("u.xx = 0", "u = 0"), chain("w = 0")]
-        refused_in_order(self, Reducer, HEAT, ((BadRanking, NO_RANKINGS), (BadChain, no_chains)))
+        refused_in_order(self, Reducer, HEAT, ((BadRanking, NO_RANKINGS), (BadChain, NO_CHAINS_OF_UV)))
         reducer = Reducer(*HEAT)
         bad = (BadPolynomial, NO_POLYNOMIALS)
         refused_in_order(self, reducer.normal, (p("u"),), (bad,))

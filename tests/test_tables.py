@@ -28,9 +28,8 @@ from systems import (
     some_polynomial,
     sum_of_terms,
 )
-from things import NO_CHAINS, NO_POLYNOMIALS, NO_RANKINGS, Odd, Yes, chain, d, p, refused_in_order, things
+from things import NO_CHAINS_OF_UV, NO_POLYNOMIALS, NO_RANKINGS, Odd, Yes, chain, d, p, refused_in_order, things
 
-NO_CHAIN_HERE = NO_CHAINS + [list(HEAT[1]), chain("u = u"), chain("u.xx = 0", "u = 0"), chain("w = 0")]
 
 
 def table_by_hand(ranking, pairs, order):
@@ -104,7 +103,7 @@ class Tables(unittest.TestCase):
 
     def test_refused_in_order(self):
         orders = (OutOfPlace, [-1, 9, None, True, "1", (1,), Odd(), Yes()])
-        refused_in_order(self, table, (*HEAT, 3), ((BadRanking, NO_RANKINGS), (BadChain, NO_CHAIN_HERE), orders))
+        refused_in_order(self, table, (*HEAT, 3), ((BadRanking, NO_RANKINGS), (BadChain, NO_CHAINS_OF_UV), orders))
 
 
 class Relations(unittest.TestCase):
@@ -194,7 +193,7 @@ class Relations(unittest.TestCase):
             relations(UV, (), (raised(p("u"), 17), None))
 
     def test_refused_in_order(self):
-        bad = ((BadRanking, NO_RANKINGS), (BadChain, NO_CHAIN_HERE), (BadPolynomial, [None, (), [], 1, Odd(), Yes()]))
+        bad = ((BadRanking, NO_RANKINGS), (BadChain, NO_CHAINS_OF_UV), (BadPolynomial, [None, (), [], 1, Odd(), Yes()]))
         refused_in_order(self, relations, (*HEAT, polynomials_of("u", "v")), bad)
 
 

@@ -119,6 +119,15 @@ NO_RANKINGS = things()
 NO_CHAINS = but(())
 NO_POLYNOMIALS = but((), (((), (1, 1)),)) + [p("w"), p("u + w.x"), [()], ((((("u", True, 0), 1),), (1, 1)),)]
 NO_DERIVATIVES = but(("u", 0, 0)) + [("w", 0, 0), ("u", -1, 0), ("u", True, 0), ("u", 0, 0, 0)]
+# Things that are no CHAIN by a RANKING that has u and v alone, and both AXES or the first one.
+NO_CHAINS_OF_UV = NO_CHAINS + [
+    list(chain("u.xx = u.x")),
+    chain("u = u"),
+    chain("u.xx = 0", "u = 0"),
+    chain("w = 0"),
+    chain("u.x = 0", "u.xx = 0"),
+    chain("v = 0", "u = v"),
+]
 NO_EQUATIONS = [thing for thing in things() if not isinstance(thing, tuple)] + [
     [p("u")],
     (p("u"),) * 13,
