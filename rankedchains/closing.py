@@ -27,7 +27,7 @@ class Closer:
     """
 
     def __init__(self, ranking, equations):
-        self.ranking = ranking
+        self.ranked_by = ranking
         self.putting = Putting(ranking, ())
         self.pending = list(equations)
         self.joined = []
@@ -55,7 +55,7 @@ class Closer:
 
     def take_rows(self, forms):
         """Makes PENDING the REDUCED ROWS of what is pending, by its forms."""
-        rows = span_of(self.ranking, forms).rows_made()
+        rows = span_of(self.ranked_by, forms).rows_made()
         self.journal.append(("rows", self.putting, self.pending, [made for _, made in rows]))
         self.pending = [row for row, _ in rows]
 
@@ -63,21 +63,21 @@ class Closer:
         """The number of the row of PENDING that is LED and has the least LEADER, or None."""
         found = {}
         for number, row in enumerate(self.pending):
-            pair = led_in(self.ranking, row)
+            pair = led_in(self.ranked_by, row)
             if pair is not None:
-                found[number] = rank_key(self.ranking, pair[0])
+                found[number] = rank_key(self.ranked_by, pair[0])
         return min(list(found), key=lambda number: found[number], default=None)
 
     def let_join(self, number):
         """The row of that number joins the CHAIN; what is DERIVED of its LEADER leaves; RIGHTS are put anew."""
         if len(self.joined) == MOST_JOINED:
             raise TooGreat("too many pairs join")
-        pair = led_in(self.ranking, self.pending[number])
-        chain = self.putting.chain
+        pair = led_in(self.ranked_by, self.pending[number])
+        chain = self.putting.pairs
         left = [at for at, (other, _) in enumerate(chain) if way_to(pair[0], other) is not None]
         stay = [other for at, other in enumerate(chain) if at not in left]
-        pairs = sorted([*stay, pair], key=lambda other: rank_key(self.ranking, other[0]))
-        putting = put_anew(self.ranking, pairs)
+        pairs = sorted([*stay, pair], key=lambda other: rank_key(self.ranked_by, other[0]))
+        putting = put_anew(self.ranked_by, pairs)
         self.joined.append((pair[0], tuple([chain[at][0] for at in left])))
         self.journal.append(("join", number, left, pairs.index(pair), pairs, putting))
         rest = self.pending[:number] + self.pending[number + 1 :]
@@ -86,15 +86,15 @@ class Closer:
 
     def look_at_conditions(self):
         """CONDITIONS that aren't IN the SPAN of PENDING are pending, too; where all are, it has come to its end."""
-        span = span_of(self.ranking, self.pending)
+        span = span_of(self.ranked_by, self.pending)
         more = [meeting for meeting in conditions_by(self.putting) if not span.has(meeting[2])]
         if more:
             self.journal.append(("conditions", self.putting, [(low, high) for low, high, _ in more]))
             self.pending = self.pending + [polynomial for _, _, polynomial in more]
         elif self.pending:
-            self.outcome = ("knot", self.putting.chain, tuple(self.pending))
+            self.outcome = ("knot", self.putting.pairs, tuple(self.pending))
         else:
-            self.outcome = ("closed", self.putting.chain)
+            self.outcome = ("closed", self.putting.pairs)
 
 
 def put_anew(ranking, pairs):
@@ -103,8 +103,8 @@ def put_anew(ranking, pairs):
     for leader, right in pairs:
         # All that is MET by a RIGHT is below its LEADER, so that those ahead alone are put for it.
         form = putting.form_of(right)
-        putting.chain = (*putting.chain, (leader, form))
-    need_small([right for _, right in putting.chain])
+        putting.pairs = (*putting.pairs, (leader, form))
+    need_small([right for _, right in putting.pairs])
     return putting
 
 

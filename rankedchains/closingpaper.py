@@ -120,7 +120,7 @@ class PaperMaker:
         """Rows of the CONDITIONS that are pending, too."""
         _, putting, places = step
         for low, high in places:
-            one_way, other_way = ways_to_meet(putting.chain, low, high)
+            one_way, other_way = ways_to_meet(putting.pairs, low, high)
             one = self.derived_row(self.chain_rows[low], *one_way)
             other = self.derived_row(self.chain_rows[high], *other_way)
             row = self.sum_row([(WHOLE, other), (scaled(WHOLE, (-1, 1)), one)])

@@ -15,7 +15,7 @@ def completed(ranking, chain):
 
 def _completed_by(putting):
     """(DERIVATIVE, WAYS, NORMAL FORM) of each PRINCIPAL CONE, by the CHAIN that is put with."""
-    cones = principal_cones(putting.ranking, putting.chain)
+    cones = principal_cones(putting.ranked_by, putting.pairs)
     return tuple([(one, ways, putting.form_of(of_derivative(one))) for one, ways in cones])
 
 

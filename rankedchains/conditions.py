@@ -14,7 +14,7 @@ def conditions(ranking, chain):
 
 def conditions_by(putting):
     """A list of (I, J, POLYNOMIAL) of the CONDITIONS of the CHAIN that is put with."""
-    return [(low, high, putting.form_of(told_unlike(putting, low, high))) for low, high in meetings(putting.chain)]
+    return [(low, high, putting.form_of(told_unlike(putting, low, high))) for low, high in meetings(putting.pairs)]
 
 
 def meetings(chain):
@@ -33,7 +33,7 @@ def ways_to_meet(chain, low, high):
 
 def told_unlike(putting, low, high):
     """What the one pair tells of the LEAST COMMON, less what the other one tells, as it stands."""
-    one_way, other_way = ways_to_meet(putting.chain, low, high)
+    one_way, other_way = ways_to_meet(putting.pairs, low, high)
     return less(putting.right_derived(low, *one_way), putting.right_derived(high, *other_way))
 
 

@@ -31,20 +31,25 @@ def principal_to(ranking, chain, order):
 
 def needed(ranking, chain, length):
     """The FREE DERIVATIVES that are NEEDED to a LENGTH, rising."""
-    _need_length(ranking, chain, length)
+    _need_length_by(ranking, chain, length)
     return tuple(rising(ranking, _shown_by(Putting(ranking, chain), length)))
 
 
-def _need_length(ranking, chain, length):
+def _need_length_by(ranking, chain, length):
     """Refuses no RANKING, no CHAIN by it, no LENGTH."""
     need_chain(ranking, chain)
-    if not is_among(length, 0, MOST_LENGTH):
+    need_length(length)
+
+
+def need_length(thing):
+    """Refuses what is no LENGTH."""
+    if not is_among(thing, 0, MOST_LENGTH):
         raise OutOfPlace("no LENGTH such as is due")
 
 
 def _shown_by(putting, length):
     """A dict from what is NEEDED to a LENGTH to the first DERIVATIVE, rising, in whose NORMAL FORM each is."""
-    below = all_to(putting.ranking, length - 1) if length > 0 else []
+    below = all_to(putting.ranked_by, length - 1) if length > 0 else []
     found = {}
     for derivative in below:
         for free in derivatives_in(putting.form_of(of_derivative(derivative))):
@@ -54,14 +59,14 @@ def _shown_by(putting, length):
 
 def need_paper(ranking, chain, length):
     """A NEED PAPER: of each FREE DERIVATIVE that is NEEDED one in whose NORMAL FORM it is."""
-    _need_length(ranking, chain, length)
+    _need_length_by(ranking, chain, length)
     shown = _shown_by(Putting(ranking, chain), length)
     return tuple([(free, shown[free]) for free in rising(ranking, shown)])
 
 
 def check_needs(ranking, chain, length, paper):
     """The FREE DERIVATIVES that a NEED PAPER shows; one that doesn't come out is refused."""
-    _need_length(ranking, chain, length)
+    _need_length_by(ranking, chain, length)
     if not isinstance(paper, tuple):
         raise BadPaper()
     putting = Putting(ranking, chain)
@@ -76,9 +81,9 @@ def check_needs(ranking, chain, length, paper):
 
 def _is_shown(putting, length, thing, free):
     """Whether anything is a pair of a FREE DERIVATIVE and one below the LENGTH in whose NORMAL FORM it is."""
-    if not isinstance(thing, tuple) or len(thing) != 2 or not derivative_fits(putting.ranking, thing[0]):
+    if not isinstance(thing, tuple) or len(thing) != 2 or not derivative_fits(putting.ranked_by, thing[0]):
         return False
-    if thing[0] != free or not derivative_fits(putting.ranking, thing[1]):
+    if thing[0] != free or not derivative_fits(putting.ranked_by, thing[1]):
         return False
     _, by_x, by_y = thing[1]
     return by_x + by_y < length and free in derivatives_in(putting.form_of(of_derivative(thing[1])))

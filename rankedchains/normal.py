@@ -30,8 +30,8 @@ class Putting:
     """What one CHAIN puts, and NORMAL FORMS by it: each derived RIGHT, each form of what is MET reckoned once."""
 
     def __init__(self, ranking, chain):
-        self.ranking = ranking
-        self.chain = chain
+        self.ranked_by = ranking
+        self.pairs = chain
         self.rights = {}
         self.forms = {}
 
@@ -39,7 +39,7 @@ class Putting:
         """The RIGHT of a pair derived as often as told by x and by y."""
         if (number, by_x, by_y) in self.rights:
             return self.rights[(number, by_x, by_y)]
-        right = self.chain[number][1]
+        right = self.pairs[number][1]
         for step in range(1, by_x + by_y + 1):
             key = (number, min(step, by_x), max(step - by_x, 0))
             if key not in self.rights:
@@ -49,24 +49,24 @@ class Putting:
 
     def equation_derived(self, number, by_x, by_y):
         """The EQUATION of a pair derived as often as told by x and by y."""
-        name, times_x, times_y = self.chain[number][0]
+        name, times_x, times_y = self.pairs[number][0]
         left = of_derivative((name, times_x + by_x, times_y + by_y))
         return less(left, self.right_derived(number, by_x, by_y))
 
     def what_is_put(self, derivative):
         """(NUMBER, I, J, POLYNOMIAL) that is put for a DERIVATIVE, None of one that is FREE."""
-        number = first_by(self.chain, derivative)
+        number = first_by(self.pairs, derivative)
         if number is None:
             return None
         if derivative[1] + derivative[2] > MOST_ORDER_PUT:
             raise TooGreat("nothing is put for a DERIVATIVE of such an ORDER")
-        by_x, by_y = way_to(self.chain[number][0], derivative)
+        by_x, by_y = way_to(self.pairs[number][0], derivative)
         return (number, by_x, by_y, self.right_derived(number, by_x, by_y))
 
     def principal_in(self, polynomial):
         """A list of the PRINCIPAL DERIVATIVES of a POLYNOMIAL, rising."""
-        found = [one for one in derivatives_in(polynomial) if first_by(self.chain, one) is not None]
-        return rising(self.ranking, found)
+        found = [one for one in derivatives_in(polynomial) if first_by(self.pairs, one) is not None]
+        return rising(self.ranked_by, found)
 
     def all_met(self, polynomial):
         """A list of the DERIVATIVES that are MET, rising."""
@@ -81,7 +81,7 @@ class Putting:
             if derivative not in found and derivative not in known:
                 found[derivative] = True
                 waiting.extend(self.principal_in(self.what_is_put(derivative)[3]))
-        return rising(self.ranking, found)
+        return rising(self.ranked_by, found)
 
     def form_of(self, polynomial):
         """The NORMAL FORM of a POLYNOMIAL."""

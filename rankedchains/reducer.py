@@ -13,34 +13,34 @@ class Reducer:
 
     def __init__(self, ranking, chain):
         need_chain(ranking, chain)
-        self.ranking = ranking
-        self.chain = chain
+        self.ranked_by = ranking
+        self.pairs = chain
         self.putting = Putting(ranking, chain)
 
     def normal(self, polynomial):
         """The NORMAL FORM of a POLYNOMIAL."""
-        need_one(self.ranking, polynomial)
+        need_one(self.ranked_by, polynomial)
         return self.putting.form_of(polynomial)
 
     def reduce_paper(self, polynomial):
         """A REDUCE PAPER of a POLYNOMIAL, with its NORMAL FORM."""
-        need_one(self.ranking, polynomial)
+        need_one(self.ranked_by, polynomial)
         return paper_by(self.putting, polynomial)
 
     def are_like(self, polynomial, other):
         """Whether the difference of two POLYNOMIALS GOES OUT."""
-        need_one(self.ranking, polynomial)
-        need_one(self.ranking, other)
+        need_one(self.ranked_by, polynomial)
+        need_one(self.ranked_by, other)
         return self.putting.form_of(less(polynomial, other)) == ()
 
     def known(self):
         """A list of pairs (DERIVATIVE, NORMAL FORM) of all that it KNOWS, rising."""
         forms = self.putting.forms
-        return [(derivative, forms[derivative]) for derivative in rising(self.ranking, forms)]
+        return [(derivative, forms[derivative]) for derivative in rising(self.ranked_by, forms)]
 
     def knows(self, derivative):
         """Whether it KNOWS the NORMAL FORM of a DERIVATIVE."""
-        need_derivative(self.ranking, derivative)
+        need_derivative(self.ranked_by, derivative)
         return derivative in self.putting.forms
 
     def forget(self):
@@ -51,13 +51,13 @@ class Reducer:
 
     def copied(self):
         """Another one that KNOWS the same, and goes on by itself."""
-        other = Reducer(self.ranking, self.chain)
+        other = Reducer(self.ranked_by, self.pairs)
         forms = self.putting.forms
         other.putting.forms = {derivative: forms[derivative] for derivative in forms}
         return other
 
     def __eq__(self, other):
-        return isinstance(other, Reducer) and self.ranking == other.ranking and self.chain == other.chain
+        return isinstance(other, Reducer) and self.ranked_by == other.ranked_by and self.pairs == other.pairs
 
     def __len__(self):
         return len(self.putting.forms)

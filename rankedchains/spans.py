@@ -17,14 +17,14 @@ class Span:
     """
 
     def __init__(self, ranking):
-        self.ranking = ranking
+        self.ranked_by = ranking
         self.heads = {}
         self.ranks = {}
 
     def key_of(self, monomial):
         """What is greater just where the MONOMIAL is greater."""
         if monomial not in self.ranks:
-            self.ranks[monomial] = monomial_key(self.ranking, monomial)
+            self.ranks[monomial] = monomial_key(self.ranked_by, monomial)
         return self.ranks[monomial]
 
     def falling(self, monomials):

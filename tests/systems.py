@@ -4,6 +4,7 @@ import functools
 import random
 from fractions import Fraction
 
+from rankedchains.cases import cases
 from rankedchains.chains import chain_in_order, derived_by, equation_of, least_common
 from rankedchains.closing import closing
 from rankedchains.errors import TooGreat
@@ -19,6 +20,7 @@ from rankedchains.polynomials import (
     put_into,
     scaled,
     times,
+    value_of,
 )
 from rankedchains.rankings import all_to, in_rank, rank_compared
 from things import chain, p
@@ -221,6 +223,85 @@ def some_systems(seed, many):
             equations.append(some_polynomial(chance, ranking, 2))
         try:
             told = closing(ranking, tuple(equations))
+        except TooGreat:
+            continue
+        many -= 1
+        yield ranking, tuple(equations), told
+
+
+def some_data(chance, ranking, pairs, order=2, most=6):
+    """DATA by chance, of FREE DERIVATIVES up to an ORDER."""
+    free = [one for one in all_to(ranking, order) if put_by_hand(ranking, pairs, one) is None]
+    some = sorted(chance.sample(free, chance.randint(0, min(most, len(free)))))
+    return tuple((one, fraction(chance.randint(-5, 5), chance.randint(1, 4))) for one in some)
+
+
+def some_jet(chance, ranking, length):
+    """A JET of a LENGTH, by chance."""
+    every = sorted(one for one in all_to(ranking, 8) if one[1] + one[2] < length)
+    return tuple((one, fraction(chance.randint(-3, 3), chance.randint(1, 3))) for one in every)
+
+
+def taylor_by_hand(ranking, polynomial, jet, length):
+    """TAYLOR by deriving the POLYNOMIAL and taking its VALUE, for each place for which all is in the JET."""
+    numbers = dict(jet)
+    order = max([one[1] + one[2] for one in derivatives_in(polynomial)], default=0)
+    told = {}
+    for total in range(length - order):
+        for by_x in range(total + 1):
+            if "y" in ranking[2] or by_x == total:
+                one = derived(derived(polynomial, "x", many=by_x), "y", many=total - by_x)
+                told[(by_x, total - by_x)] = value_of(one, numbers)
+    return told
+
+
+def factors_by_hand(ranking, polynomial):
+    """FACTORS, and whether the last one is a REST, by taking the DERIVATIVES off one by one."""
+    if not polynomial or any(not monomial for monomial, _ in polynomial):
+        return (), False
+    rows = [(dict(monomial), number) for monomial, number in polynomial]
+    told = []
+    for one in in_rank(ranking, list(derivatives_in(polynomial))):
+        if all(one in row for row, _ in rows):
+            told.append(of_derivative(one))
+            least = min(row[one] for row, _ in rows)
+            for row, _ in rows:
+                row[one] -= least
+    rest = tuple(sorted((tuple(sorted((k, n) for k, n in row.items() if n)), number) for row, number in rows))
+    if not told or rest[0][0] == () and len(rest) == 1:
+        return tuple(told), False
+    return (*told, rows_by_hand(ranking, [rest])[0]), True
+
+
+def cases_by_hand(ranking, equations, assumed=()):
+    """A list of the LEAVES by the words of [61], whatever the bounds; CLOSING is told by itself."""
+    told = closing_by_hand(ranking, (*equations, *assumed))[0]
+    if told[0] == "knot":
+        for row in told[2][::-1]:
+            some, has_rest = factors_by_hand(ranking, row)
+            if some and not (has_rest and is_in_by_hand(ranking, told[2], some[-1])):
+                return [leaf for one in some for leaf in cases_by_hand(ranking, equations, (*assumed, one))]
+    pending = told[2] if told[0] == "knot" else ()
+    return [(told[0], assumed, told[1] if len(told) > 1 else (), pending)]
+
+
+def some_products(seed, many, most=3):
+    """RANKINGS and EQUATIONS by chance, among them products, of which CASES are told, and the LEAVES."""
+    chance = random.Random(seed)
+    while many:
+        ranking = chance.choice((UV, YX, NAMES, ONE_AXIS, YX_NAMES))
+        equations = []
+        for _ in range(chance.randint(1, most)):
+            one = some_led(chance, ranking, chance.randint(1, 2), chance.randint(1, 2), 1)
+            for _ in range(chance.choice((0, 1, 1, 2))):
+                one = times(one, of_derivative(chance.choice(all_to(ranking, 1))))
+            if chance.random() < 0.1:
+                one = plus(times(one, one), of_derivative(chance.choice(all_to(ranking, 1))))
+            if chance.random() < 0.2:
+                one = plus(of_derivative((ranking[1][0], 0, 0)), constant((chance.randint(-1, 1), 1)))
+            equations.append(one)
+        try:
+            told = cases(ranking, tuple(equations))
         except TooGreat:
             continue
         many -= 1

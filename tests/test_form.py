@@ -235,8 +235,21 @@ class Names(unittest.TestCase):
             for node in ast.walk(tree):
                 if isinstance(node, ast.Attribute) and isinstance(node.ctx, ast.Store):
                     self.assertNotIn(node.attr, BARRED_ATTRIBUTES | BARRED, f"{name}:{node.lineno}")
-        for kind, found in stored.items():
-            self.assertEqual(found & methods[kind], set(), kind)
+        # So none is a method in one class and an attribute in another one, either.
+        self.assertEqual(set().union(*stored.values()) & set().union(*methods.values()), set())
+
+    def test_the_library_is_called_by_bare_names(self):
+        for name, tree in trees():
+            own = {
+                alias.name
+                for node in tree.body
+                if isinstance(node, ast.ImportFrom) and node.module in LIBRARY
+                for alias in node.names
+            }
+            called = {id(node.func) for node in ast.walk(tree) if isinstance(node, ast.Call) and not node.keywords}
+            for node in ast.walk(tree):
+                if isinstance(node, ast.Name) and node.id in own:
+                    self.assertIn(id(node), called, f"{name}:{node.lineno}")
 
     def test_stars_in_calls_stand_over_names(self):
         for name, tree in trees():

@@ -136,12 +136,40 @@ FUNCTIONS = {
         "gaps": "(ranking, chain)",
         "has_gaps": "(ranking, chain)",
     },
+    "elimination": {"alone": "(ranking, chain, many)"},
+    "series": {
+        "need_data": "(ranking, chain, data)",
+        "number_at": "(ranking, chain, derivative, *, data=())",
+        "number_of": "(ranking, chain, polynomial, *, data=())",
+        "jet_of": "(ranking, chain, *, data=(), length=4)",
+        "hangs_on": "(ranking, chain, derivative)",
+    },
+    "jets": {
+        "length_of": "(ranking, jet)",
+        "cut_jet": "(ranking, jet, length)",
+        "added_jets": "(ranking, jet, other)",
+        "scaled_jet": "(ranking, jet, by)",
+        "data_of": "(ranking, chain, jet)",
+    },
+    "taylor": {
+        "taylor_of": "(ranking, polynomial, jet)",
+        "solves": "(ranking, polynomial, jet)",
+        "first_fault": "(ranking, polynomials, jet)",
+    },
+    "cases": {
+        "factors": "(ranking, polynomial)",
+        "cases": "(ranking, equations)",
+        "is_within": "(ranking, chain, other)",
+        "kept_leaves": "(ranking, equations)",
+    },
 }
 VALUES = {
     "words": {"AXES": ("x", "y")},
     "numbers": {"NOUGHT": (0, 1), "ONE": (1, 1)},
     "rankings": {"SORTS": ("total", "names"), "AXES_ALL": (("x",), ("x", "y"), ("y", "x"))},
     "spans": {"MOST_EQUATIONS": 12},
+    "series": {"LENGTH": 4, "MOST_LENGTH": 8},
+    "cases": {"MOST_LEAVES": 12},
 }
 CLASSES = {
     "errors": {
