@@ -1,12 +1,13 @@
 """CASES of EQUATIONS: where CLOSING comes to a KNOT with a product, each of its FACTORS is put to them."""
 
+from rankedchains.chains import equations_in
 from rankedchains.closing import closed_up
 from rankedchains.conditions import need_closed
 from rankedchains.errors import TooGreat
 from rankedchains.leaders import head_in, need_one
 from rankedchains.normal import Putting
 from rankedchains.numbers import ONE, quotient
-from rankedchains.polynomials import is_number, less, of_derivative, polynomial_of, scaled
+from rankedchains.polynomials import is_number, of_derivative, polynomial_of, scaled
 from rankedchains.rankings import need_ranking, rising
 from rankedchains.spans import need_equations, span_of
 
@@ -57,7 +58,7 @@ class Case:
     """What CLOSING tells where some FACTORS are ASSUMED, and, of a KNOT that is SPLIT, the CASES in its place."""
 
     def __init__(self, equations, assumed, closer):
-        self.given = equations
+        self.there = (*equations, *assumed)
         self.assumed_there = assumed
         self.closer = closer
         self.split_row = None
@@ -109,20 +110,16 @@ def first_splitting(ranking, pending):
 
 
 def case_tree(ranking, equations):
-    """The CASE of EQUATIONS, with all CASES in it."""
-    return Splitter(ranking).case_of(equations, ())
-
-
-def ended_cases(ranking, equations):
-    """A list of the CASES that are LEAVES, from the left."""
+    """The CASE of what are EQUATIONS, with all CASES in it, and a tuple of the LEAVES."""
     splitter = Splitter(ranking)
-    splitter.case_of(equations, ())
-    return splitter.ended
+    whole = splitter.case_of(equations, ())
+    return whole, tuple([case.leaf() for case in splitter.ended])
 
 
 def leaves_of(ranking, equations):
     """A tuple of the LEAVES of what are EQUATIONS."""
-    return tuple([case.leaf() for case in ended_cases(ranking, equations)])
+    _, leaves = case_tree(ranking, equations)
+    return leaves
 
 
 def cases(ranking, equations):
@@ -150,7 +147,7 @@ def is_within(ranking, chain, other):
 
 def lies_within(ranking, chain, other):
     """Whether all EQUATIONS of the other CHAIN GO OUT by the first one."""
-    return all_go_out(Putting(ranking, chain), [less(of_derivative(leader), right) for leader, right in other])
+    return all_go_out(Putting(ranking, chain), equations_in(other))
 
 
 def all_go_out(putting, polynomials):

@@ -93,6 +93,11 @@ def equation_of(ranking, pair):
     return less(of_derivative(pair[0]), pair[1])
 
 
+def equations_in(chain):
+    """A list of the EQUATIONS of all pairs of a CHAIN."""
+    return [less(of_derivative(leader), right) for leader, right in chain]
+
+
 def _need_pair(ranking, thing):
     """Refuses what is no pair of a DERIVATIVE and a POLYNOMIAL OF what is a RANKING."""
     if not is_pair(ranking, thing):

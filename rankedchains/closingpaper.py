@@ -1,12 +1,12 @@
 """PAPER ROWS on EQUATIONS, and CLOSING PAPERS: made of what CLOSING did, looked at without any closing."""
 
-from rankedchains.chains import is_chain
+from rankedchains.chains import equations_in, is_chain
 from rankedchains.closing import closed_up
 from rankedchains.conditions import conditions_by, need_closed, told_unlike, ways_to_meet
 from rankedchains.errors import BadChain, BadPaper
 from rankedchains.leaders import led_in
 from rankedchains.normal import Putting
-from rankedchains.polynomials import constant, derived, less, of_derivative, plus, scaled, times
+from rankedchains.polynomials import constant, derived, plus, scaled, times
 from rankedchains.rankings import polynomial_fits
 from rankedchains.reducepaper import cofactors
 from rankedchains.spans import need_equations, rows_in, span_of
@@ -40,7 +40,7 @@ def _come_to(ranking, equations, ahead, row):
         return None
     if row[0] == "given" and len(row) == 2 and is_among(row[1], 0, len(equations) - 1):
         return equations[row[1]]
-    if row[0] == "derived" and len(row) == 3 and _is_row(ahead, row[1]) and _is_axis_of(ranking, row[2]):
+    if row[0] == "derived" and len(row) == 3 and is_row(ahead, row[1]) and _is_axis_of(ranking, row[2]):
         return derived(ahead[row[1]], row[2])
     if row[0] == "sum" and len(row) == 2 and _are_parts(ranking, ahead, row[1]):
         total = ()
@@ -50,7 +50,7 @@ def _come_to(ranking, equations, ahead, row):
     return None
 
 
-def _is_row(ahead, thing):
+def is_row(ahead, thing):
     """Whether anything is the number of one of the rows ahead."""
     return is_among(thing, 0, len(ahead) - 1)
 
@@ -67,7 +67,7 @@ def _are_parts(ranking, ahead, thing):
     for part in thing:
         if not isinstance(part, tuple) or len(part) != 2:
             return False
-        if not polynomial_fits(ranking, part[0]) or not _is_row(ahead, part[1]):
+        if not polynomial_fits(ranking, part[0]) or not is_row(ahead, part[1]):
             return False
     return True
 
@@ -166,12 +166,23 @@ class PaperMaker:
 def closing_paper(ranking, equations):
     """A CLOSING PAPER of what CLOSING tells."""
     need_equations(ranking, equations)
-    closer = closed_up(ranking, equations)
+    return paper_of(closed_up(ranking, equations), equations)
+
+
+def paper_of(closer, equations):
+    """(ROWS, PLACES) of what CLOSING told at its end, of however many EQUATIONS."""
+    if closer.outcome[0] == "contradiction":
+        return paper_of_pending(closer, equations, closer.pending.index(WHOLE))
     maker = PaperMaker(equations)
     maker.follow(closer.journal)
-    if closer.outcome[0] == "contradiction":
-        return but_what_counts(maker.rows, [maker.pending_rows[closer.pending.index(WHOLE)]])
     return but_what_counts(maker.rows, maker.chain_rows + maker.pending_rows)
+
+
+def paper_of_pending(closer, equations, number):
+    """(ROWS, PLACES) of one row of what is PENDING at the end of CLOSING, by its number."""
+    maker = PaperMaker(equations)
+    maker.follow(closer.journal)
+    return but_what_counts(maker.rows, [maker.pending_rows[number]])
 
 
 def but_what_counts(rows, places):
@@ -263,14 +274,14 @@ def _rows_due(told):
     """A list of the POLYNOMIALS whose rows PLACES are."""
     if told[0] == "contradiction":
         return [WHOLE]
-    due = [less(of_derivative(leader), right) for leader, right in told[1]]
+    due = equations_in(told[1])
     return due + list(told[2]) if told[0] == "knot" else due
 
 
 def _need_places(found, places, due):
     """Refuses PLACES by the first that isn't the row that is due, is one too many, or lacks."""
     for number in range(max(len(places), len(due))):
-        if number >= len(places) or number >= len(due) or not _is_row(found, places[number]):
+        if number >= len(places) or number >= len(due) or not is_row(found, places[number]):
             raise BadPaper(("place", number))
         if found[places[number]] != due[number]:
             raise BadPaper(("place", number))

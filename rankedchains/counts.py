@@ -10,6 +10,11 @@ MOST_MANY = 13
 
 def counts(ranking, chain, *, many=6):
     """A list of how many FREE DERIVATIVES there are of each of the first ORDERS."""
+    return counts_to(ranking, chain, many)
+
+
+def counts_to(ranking, chain, many):
+    """A list of as many COUNTS as told, from ORDER 0 on."""
     _need_total(ranking, chain)
     if not is_among(many, 0, MOST_MANY):
         raise OutOfPlace("not so many COUNTS are told")

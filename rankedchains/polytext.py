@@ -57,9 +57,14 @@ def read_poly(text):
     words = words_of(text)
     if words is None:
         raise BadRow(1, 0)
-    misfit = _first_misfit(words)
+    misfit = first_misfit(words)
     if misfit is not None:
         raise BadRow(1, misfit)
+    return poly_of_words(words)
+
+
+def poly_of_words(words):
+    """The POLYNOMIAL of words all of which can stand."""
     total = {}
     sign = "+"
     for at, word in enumerate(words):
@@ -73,7 +78,7 @@ def read_poly(text):
     return polynomial_of(total)
 
 
-def _first_misfit(words):
+def first_misfit(words):
     """The number, from 1, of the first word that can't stand, or of one that lacks; or None."""
     for at, word in enumerate(words):
         if at & 1:
@@ -116,16 +121,16 @@ def _read_term(word, first):
 def read_number(text):
     """The FRACTION of a FACTOR in figures, or None of what is none."""
     top, stroke, bottom = text.partition("/")
-    if not _is_figures(top, MOST_FIGURES):
+    if not is_figures(top, MOST_FIGURES):
         return None
     if not stroke:
         return fraction(int(top))
-    if not _is_figures(bottom, MOST_BOTTOM_FIGURES) or int(bottom) == 0:
+    if not is_figures(bottom, MOST_BOTTOM_FIGURES) or int(bottom) == 0:
         return None
     return fraction(int(top), int(bottom))
 
 
-def _is_figures(text, most):
+def is_figures(text, most):
     """Whether a text is one figure at least, as many as told at most."""
     return 1 <= len(text) <= most and all([sign in FIGURES for sign in text])
 
@@ -138,7 +143,7 @@ def read_power(text):
         return None
     if not hat:
         return (derivative, 1)
-    if not _is_figures(figure, 1) or figure == "0":
+    if not is_figures(figure, 1) or figure == "0":
         return None
     return (derivative, int(figure))
 

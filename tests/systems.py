@@ -306,3 +306,18 @@ def some_products(seed, many, most=3):
             continue
         many -= 1
         yield ranking, tuple(equations), told
+
+
+def tree_at(tree, way):
+    """The part of a TREE at a WAY."""
+    for number in way:
+        tree = tree[3][number]
+    return tree
+
+
+def tree_with(tree, way, part):
+    """A TREE with another part at a WAY."""
+    if not way:
+        return part
+    trees = tree[3][: way[0]] + (tree_with(tree[3][way[0]], way[1:], part),) + tree[3][way[0] + 1 :]
+    return (*tree[:3], trees)

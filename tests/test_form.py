@@ -315,6 +315,30 @@ class Values(unittest.TestCase):
                 if made or isinstance(node, ast.SetComp):
                     self.assertIn(id(node), free, f"{name}:{node.lineno}")
 
+    def test_names_of_errors_are_their_own(self):
+        for name, tree in trees():
+            for node in functions(tree):
+                caught = [part.name for part in ast.walk(node) if isinstance(part, ast.ExceptHandler) and part.name]
+                stored = {part.id for part in ast.walk(node) if isinstance(part, ast.Name) and isinstance(part.ctx, ast.Store)}
+                self.assertEqual(len(caught), len(set(caught)), f"{name}: {node.name}")
+                self.assertEqual(set(caught) & (stored | {part.arg for part in node.args.args}), set())
+
+    def test_what_is_done_at_last_is_simple(self):
+        simple = (ast.Name, ast.Attribute, ast.Constant, ast.Tuple, ast.List, ast.Load, ast.Store)
+        for name, tree in trees():
+            for node in ast.walk(tree):
+                for last in node.finalbody if isinstance(node, ast.Try) else []:
+                    where = f"{name}:{last.lineno}"
+                    if isinstance(last, ast.Assign):
+                        parts = [last.targets[0], last.value]
+                    else:
+                        self.assertIsInstance(last, ast.Expr, where)
+                        self.assertEqual(last.value.func.attr, "append", where)
+                        parts = last.value.args
+                    for part in parts:
+                        for inner in ast.walk(part):
+                            self.assertIsInstance(inner, simple, where)
+
     def test_what_is_caught(self):
         for name, tree in trees():
             for node in ast.walk(tree):

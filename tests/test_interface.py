@@ -162,6 +162,27 @@ FUNCTIONS = {
         "is_within": "(ranking, chain, other)",
         "kept_leaves": "(ranking, equations)",
     },
+    "follows": {
+        "word_of": "(ranking, equations, polynomial)",
+        "implied": "(ranking, equations, others)",
+        "are_same": "(ranking, equations, others)",
+        "breaking": "(ranking, chain, polynomial)",
+    },
+    "coverpaper": {
+        "cover_paper": "(ranking, equations)",
+        "check_cover": "(ranking, equations, paper)",
+    },
+    "followspaper": {
+        "follows_paper": "(ranking, equations, polynomial)",
+        "check_follows": "(ranking, equations, polynomial, paper)",
+    },
+    "system": {"is_edit": "(thing)"},
+    "systemtext": {
+        "edit_text": "(edit)",
+        "read_edit": "(words)",
+        "system_text": "(system)",
+        "read_system": "(text)",
+    },
 }
 VALUES = {
     "words": {"AXES": ("x", "y")},
@@ -170,6 +191,7 @@ VALUES = {
     "spans": {"MOST_EQUATIONS": 12},
     "series": {"LENGTH": 4, "MOST_LENGTH": 8},
     "cases": {"MOST_LEAVES": 12},
+    "system": {"MOST_TOLD": 8, "MOST_ASSUMED": 4, "MOST_MANY": 8},
 }
 CLASSES = {
     "errors": {
@@ -187,6 +209,8 @@ CLASSES = {
         "Knotted": "(number)",
     },
     "reducer": {"Reducer": "(ranking, chain)"},
+    "system": {"System": "(ranking)"},
+    "desk": {"Desk": "()"},
 }
 METHODS = {
     "reducer": {
@@ -202,6 +226,37 @@ METHODS = {
             "__len__": "(self)",
         },
     },
+    "system": {
+        "System": {
+            "do": "(self, edit)",
+            "tell": "(self, polynomial)",
+            "take": "(self, number)",
+            "assume": "(self, polynomial)",
+            "drop": "(self)",
+            "rank": "(self, ranking)",
+            "many": "(self, edits)",
+            "undo": "(self)",
+            "redo": "(self)",
+            "told": "(self)",
+            "assumed": "(self)",
+            "equations": "(self)",
+            "ranking": "(self)",
+            "edits": "(self)",
+            "log": "(self)",
+            "busy": "(self)",
+            "leaves": "(self)",
+            "chain": "(self, case)",
+            "jet": "(self, case, *, data=(), length=4)",
+            "counts": "(self, case, *, many=6)",
+            "word_of": "(self, polynomial)",
+            "follows_paper": "(self, polynomial)",
+            "copied": "(self)",
+            "__eq__": "(self, other)",
+            "__len__": "(self)",
+            "__repr__": "(self)",
+        },
+    },
+    "desk": {"Desk": {"say": "(self, line)", "system": "(self)"}},
 }
 
 
