@@ -38,7 +38,14 @@ def sum_of(one, other):
     """Both together."""
     if one[1] == 1 and other[1] == 1:
         return (one[0] + other[0], 1)
-    return lowest(one[0] * other[1] + other[0] * one[1], one[1] * other[1])
+    common = gcd(one[1], other[1])
+    if common == 1:
+        return (one[0] * other[1] + other[0] * one[1], one[1] * other[1])
+    # Whatever divides both TOP and BOTTOM of the sum divides what the BOTTOMS have in common.
+    own = one[1] // common
+    top = one[0] * (other[1] // common) + other[0] * own
+    rest = gcd(top, common)
+    return (top // rest, own * (other[1] // rest))
 
 
 def difference(one, other):
@@ -50,7 +57,10 @@ def product(one, other):
     """One times the other."""
     if one[1] == 1 and other[1] == 1:
         return (one[0] * other[0], 1)
-    return lowest(one[0] * other[0], one[1] * other[1])
+    # Each is in lowest terms, so that only the one's TOP and the other's BOTTOM have something in common.
+    left = gcd(one[0], other[1])
+    right = gcd(other[0], one[1])
+    return ((one[0] // left) * (other[0] // right), (one[1] // right) * (other[1] // left))
 
 
 def quotient(one, other):
