@@ -40,7 +40,7 @@ def read_edit(words):
         return None if number is None else ("take", number)
     if word == "rank":
         return None if rank_misfit(words[1:]) is not None else ("rank", _ranking_of(words[1:]))
-    return ("drop",) if words == ["drop"] else None
+    return ("drop",) if word == "drop" and len(words) == 1 else None
 
 
 def read_whole(text):

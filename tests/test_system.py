@@ -641,9 +641,10 @@ class Owned(unittest.TestCase):
         system.tell(p("u*v"))
         system.assume(p("u"))
         for call in (system.told, system.edits, system.log, lambda: system.counts(0)):
-            before = call()
-            call().clear()
+            before = list(call())
             call().append(None)
+            self.assertEqual(call(), before)
+            call().clear()
             self.assertEqual(call(), before)
 
     def test_copies(self):
@@ -682,6 +683,10 @@ class Owned(unittest.TestCase):
         other.many((("tell", p("u")), ("assume", p("v"))))
         self.assertFalse(one == other)
         other.drop()
+        self.assertTrue(one == other)
+        # What was done ahead doesn't count, nor the next NUMBER.
+        other.tell(p("v"))
+        other.take(1)
         self.assertTrue(one == other)
         # NUMBERS of those TOLD count.
         other.take(0)
